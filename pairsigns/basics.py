@@ -46,6 +46,11 @@ def kind_of_value(value):
     return "text" if isinstance(value, str) else "number"
 
 
+def has_kind(value, kind):
+    """Whether this is a value of the kind."""
+    return is_value(value) and kind_of_value(value) == kind
+
+
 def sign_between(one, other):
     """The sign of two values of one kind, or of two ranks."""
     if one < other:

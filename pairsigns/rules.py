@@ -22,7 +22,7 @@ def is_column(value):
     """Whether this is a tuple of a name and a kind."""
     if not isinstance(value, tuple) or len(value) != 2:
         return False
-    return is_name(value[0]) and value[1] in ("number", "text")
+    return is_name(value[0]) and isinstance(value[1], str) and value[1] in ("number", "text")
 
 
 def names_of(pairs):
@@ -42,7 +42,7 @@ def is_rule_for(names, value):
     if has_form(value, "key", 2):
         return is_chosen(names, value[1])
     if has_form(value, "determines", 3):
-        return is_chosen(names, value[1]) and value[2] in names and value[2] not in value[1]
+        return is_chosen(names, value[1]) and is_chosen(names, (value[2],)) and value[2] not in value[1]
     if has_form(value, "orders", 3):
         return is_rule_order(names, value[1]) and is_rule_order(names, value[2])
     return has_form(value, "never", 2) and is_sign_list(names, value[1])
@@ -50,12 +50,14 @@ def is_rule_for(names, value):
 
 def has_form(value, word, parts):
     """Whether this is a tuple of so many parts, the word first."""
-    return isinstance(value, tuple) and len(value) == parts and value[0] == word
+    return isinstance(value, tuple) and len(value) == parts and isinstance(value[0], str) and value[0] == word
 
 
 def is_chosen(names, value):
     """Whether this is a tuple of some of the names, each once, in their sequence."""
-    return isinstance(value, tuple) and value == tuple([name for name in names if name in value])
+    if not isinstance(value, tuple) or not all([isinstance(name, str) for name in value]):
+        return False
+    return value == tuple([name for name in names if name in value])
 
 
 def is_rule_order(names, value):

@@ -70,7 +70,7 @@ def is_entry(value):
     """Whether this is a tuple of a column and a direction."""
     if not isinstance(value, tuple) or len(value) != 2:
         return False
-    return is_order_column(value[0]) and value[1] in ("up", "down")
+    return is_order_column(value[0]) and isinstance(value[1], str) and value[1] in ("up", "down")
 
 
 def first_wrong_entry(entries):
@@ -81,6 +81,11 @@ def first_wrong_entry(entries):
             return position
         earlier[entry[0]] = True
     return None
+
+
+def entries_in(order):
+    """What has been passed as the entries of an order: those of an Order, or the value itself."""
+    return order.entries if isinstance(order, Order) else order
 
 
 def sign_by(entries, signs):
@@ -120,7 +125,7 @@ class Order:
     """A sequence of columns with directions, by which two rows have a sign."""
 
     def __init__(self, entries=()):
-        listed = entries.entries if isinstance(entries, Order) else entries
+        listed = entries_in(entries)
         if not is_listing(listed):
             raise InvalidOrder(-1)
         wrong = first_wrong_entry(listed)

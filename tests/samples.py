@@ -8,9 +8,12 @@ BIG = 10 ** 30 - 1
 
 def odd_values():
     """A new list of values of every kind (floats are never passed)."""
+    from pairsigns.queries import Query
     from pairsigns.rules import Rules
     from pairsigns.signs import Order
+    from pairsigns.tables import Catalog, Database
     columns = (("a", "number"),)
+    catalog = Catalog([("r", Rules(columns), [])])
     return [
         None, True, False, 0, 1, -1, 2, -2, 5, 17, BIG, -BIG,
         "", "a", "b", "A", "abc", "a b", "none", "key", "key a", "up", "down", "coming", "number", "-", "0", "+", "-0+",
@@ -27,6 +30,7 @@ def odd_values():
         ("never", (["a", 1],)), ("never", (("coming", 0),)), (1, ("a",)), (None, None), (["key"], ("a",)),
         {}, {"a": 1}, {"a": "up"}, {1: {2: [3]}}, {0: ()}, {"a"}, frozenset(),
         object(), int, len, range(3), Order(), Order([("a", "up")]), Rules(columns), Rules(columns, [("key", ("a",))]),
+        catalog, Database(catalog), Query(catalog, ("r",), wanted=("r.a",)),
     ]
 
 

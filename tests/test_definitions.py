@@ -4,13 +4,19 @@ import ast
 import copy
 import importlib
 import inspect
+import re
 import unittest
 from pathlib import Path
 
-from pairsigns.errors import InvalidOrder, InvalidRule, InvalidValue, InvalidVector
+from pairsigns.classes import class_of, classes_of, in_range, is_fixed, range_of, room_of
+from pairsigns.errors import InvalidOrder, InvalidQuery, InvalidRow, InvalidRule, InvalidTable, InvalidValue, InvalidVector
+from pairsigns.judging import determined, follows, least_keys, left_out, same_rules, triples_of
+from pairsigns.queries import Query, combinations, is_answer, plain_output, query_fits
 from pairsigns.rules import Rules, breaks, is_columns, is_rule, read_rule, rule_text
 from pairsigns.signs import Order, read_vector, sign_of, turned, vector_text
+from pairsigns.tables import Catalog, Database
 from pairsigns.weakorders import pair_sign, signs_fit, weak_order_of, weak_orders
+from tests.query_samples import catalog_of, simple
 from tests.rule_samples import ONE, TWO
 from tests.samples import check_error, check_same
 
@@ -21,6 +27,12 @@ FUNCTIONS = {
                    "signs_fit": ["one", "other", "both"]},
     "rules": {"is_columns": ["value"], "is_rule": ["columns", "value"], "breaks": ["columns", "rule", "vector"],
               "rule_text": ["rule"], "read_rule": ["columns", "text"]},
+    "judging": {"follows": ["rules", "rule"], "same_rules": ["one", "other"], "left_out": ["rules"], "least_keys": ["rules"],
+                "determined": ["rules", "names"], "triples_of": ["rules", "names"]},
+    "queries": {"query_fits": ["catalog", "query"], "combinations": ["database", "query"], "plain_output": ["database", "query"],
+                "is_answer": ["database", "query", "rows"]},
+    "classes": {"classes_of": ["query"], "class_of": ["query", "reference"], "range_of": ["query", "reference"],
+                "room_of": ["query", "reference"], "is_fixed": ["query", "reference"], "in_range": ["query", "reference", "value"]},
 }
 METHODS = {
     ("signs", "Order"): {"__init__": ["entries"], "entries": [], "columns": [], "begin": ["count"], "then": ["other"],
@@ -34,6 +46,11 @@ METHODS = {
 
 def body_of(file):
     return ast.parse((PACKAGE / f"{file}.py").read_text(encoding="utf-8")).body
+
+
+def without_addresses(value):
+    """The repr of a value, without what tells two equal objects apart."""
+    return re.sub(" object at 0x[0-9a-f]+", "", repr(value))
 
 
 def arguments_of(function):
@@ -65,13 +82,19 @@ class Interface(unittest.TestCase):
         self.assertEqual(inspect.signature(Order).parameters["entries"].default, ())
         self.assertEqual(inspect.signature(Rules).parameters["rules"].default, ())
         self.assertIs(inspect.signature(weak_orders).parameters["most"].default, None)
+        parts = {name: part.default for name, part in inspect.signature(Query).parameters.items() if part.kind is part.KEYWORD_ONLY}
+        self.assertEqual(parts, {"equalities": (), "filters": (), "wanted": inspect.Parameter.empty, "runs": "none", "order": (),
+                                 "first": None})
 
     def test_kinds_of_methods(self):
-        for owner, names in ((Order, ("entries", "columns")), (Rules, ("columns", "rules"))):
+        for owner, names in ((Order, ("entries", "columns")), (Rules, ("columns", "rules")), (Catalog, ("tables",)),
+                             (Database, ("catalog",)),
+                             (Query, ("tables", "equalities", "filters", "wanted", "runs", "order", "first"))):
             for name in names:
                 self.assertIsInstance(vars(owner)[name], property)
         self.assertIsInstance(vars(Order)["from_text"], classmethod)
         self.assertTrue(inspect.isgeneratorfunction(weak_orders))
+        self.assertTrue(inspect.isgeneratorfunction(combinations))
 
 
 class ByName(unittest.TestCase):
@@ -95,8 +118,45 @@ class ByName(unittest.TestCase):
                 (Order, {"entries": [("a", "up")]}), (Rules, {"columns": ONE, "rules": [("key", ())]})):
             self.check_call(method, arguments)
 
+    def test_judging(self):
+        rules, rule = Rules(TWO, [("key", ("a",))]), ("key", ("a", "b"))
+        for function, arguments in (
+                (follows, {"rules": rules, "rule": rule}), (same_rules, {"one": rules, "other": Rules(TWO, [rule])}),
+                (left_out, {"rules": rules.with_rule(rule)}), (least_keys, {"rules": rules}),
+                (determined, {"rules": rules, "names": ["a"]}), (triples_of, {"rules": rules, "names": ("a", "coming")})):
+            self.check_call(function, arguments)
+
+    def test_tables(self):
+        catalog = catalog_of()
+        database = Database(catalog)
+        database.insert("r", (1, 2, "x"))
+        for call, arguments in (
+                (Catalog, {"tables": [("r", Rules(ONE), [("by", [("a", "up")])])]}), (catalog.rules_of, {"table": "r"}),
+                (catalog.indexes_of, {"table": "r"}), (catalog.kind_of, {"reference": "r.a"}),
+                (catalog.with_rules, {"table": "t", "rules": Rules(catalog.rules_of("t").columns, [("key", ())])}),
+                (catalog.with_index, {"table": "s", "name": "by", "order": [("d", "down")]}), (Database, {"catalog": catalog}),
+                (database.row, {"table": "r", "place": 0}), (database.rows, {"table": "r"}), (database.clone, {}), (database.__len__, {})):
+            self.check_call(call, arguments)
+
+    def test_queries(self):
+        query, database = simple(filters=[("r.a", "<", 5)]), Database(catalog_of())
+        database.insert("r", (1, 2, "x"))
+        for call, arguments in (
+                (query.columns_of, {"table": "r"}), (query_fits, {"catalog": catalog_of(), "query": query}),
+                (plain_output, {"database": database, "query": query}), (classes_of, {"query": query}),
+                (is_answer, {"database": database, "query": query, "rows": [(1,)]}), (class_of, {"query": query, "reference": "r.a"}),
+                (range_of, {"query": query, "reference": "r.a"}), (room_of, {"query": query, "reference": "r.a"}),
+                (is_fixed, {"query": query, "reference": "r.a"}), (in_range, {"query": query, "reference": "r.a", "value": 5})):
+            self.check_call(call, arguments)
+        changed = {"wanted": ("r.b", "r.c"), "order": [("r.c", "up")], "filters": []}
+        self.assertEqual(query.changed(**changed), query.changed(**dict(reversed(list(changed.items())))))
+        self.assertEqual(changed, {"wanted": ("r.b", "r.c"), "order": [("r.c", "up")], "filters": []})
+
     def test_generators(self):
         check_same(self, list(weak_orders(count=2, most=1)), list(weak_orders(2, 1)))
+        database = Database(catalog_of())
+        database.insert("r", (1, 2, "x"))
+        check_same(self, list(combinations(query=simple(), database=database)), list(combinations(database, simple())))
 
     def check_call(self, call, arguments):
         """By position, by name, in the other sequence; and twice the same; and the arguments stay as they were."""
@@ -105,7 +165,8 @@ class ByName(unittest.TestCase):
         for again in (call(**arguments), call(**dict(reversed(list(arguments.items())))), call(*arguments.values())):
             self.assertEqual(again, found)
             self.assertIs(type(again), type(found))
-        self.assertEqual(repr(arguments), repr(before))
+        self.assertEqual(arguments, before)
+        self.assertEqual(without_addresses(arguments), without_addresses(before))
 
 
 class TrueIsNotOne(unittest.TestCase):
@@ -116,6 +177,12 @@ class TrueIsNotOne(unittest.TestCase):
             check_error(self, InvalidValue, {"value": wrong}, weak_order_of, [0, 1, wrong])
             check_error(self, InvalidVector, {"value": (1, wrong)}, turned, (1, wrong))
             check_error(self, InvalidVector, {"value": (wrong,)}, vector_text, (wrong,))
+
+    def test_rows_and_filters(self):
+        for wrong in (True, False):
+            check_error(self, InvalidRow, {"position": 0}, Database(catalog_of()).insert, "r", (wrong, 1, ""))
+            check_error(self, InvalidQuery, {"part": "filters", "position": 0}, simple, filters=[("r.a", "=", wrong)])
+            check_error(self, InvalidQuery, {"part": "first", "position": -1}, simple, first=wrong)
 
     def test_signs_of_rules(self):
         for sign in (True, False):
@@ -140,6 +207,11 @@ class ListsAndTuples(unittest.TestCase):
         self.assertEqual(Order().then(tuple(entries)), Order().then(entries))
         self.assertEqual(Rules(ONE, tuple(rules)), Rules(ONE, rules))
         self.assertEqual(weak_order_of(tuple(values)), weak_order_of(values))
+        self.assertEqual(determined(Rules(ONE, rules), ("a",)), determined(Rules(ONE, rules), ["a"]))
+        self.assertEqual(Catalog((("r", Rules(ONE), (("by", tuple(entries)),)),)), Catalog([("r", Rules(ONE), [("by", entries)])]))
+        self.assertEqual(simple(equalities=(("r.a", "r.b"),), filters=(("r.a", "<", 5),), order=(("r.a", "up"),)),
+                         simple(equalities=[("r.a", "r.b")], filters=[("r.a", "<", 5)], order=[("r.a", "up")]))
+        self.assertEqual([Database(catalog_of()).insert("s", row) for row in ((1, "a"), [1, "a"])], [0, 0])
 
     def test_where_a_tuple_is_asked_for_a_list_is_not_accepted(self):
         check_error(self, InvalidVector, {"value": [0, 1]}, turned, [0, 1])
@@ -148,6 +220,12 @@ class ListsAndTuples(unittest.TestCase):
         check_error(self, InvalidOrder, {"position": 0}, Order, [["a", "up"]])
         check_error(self, InvalidRule, {"position": 0}, Rules, ONE, [["key", ("a",)]])
         self.assertIs(is_columns([("a", "number")]), False)
+        check_error(self, InvalidTable, {"position": 0}, Catalog, [["r", Rules(ONE), []]])
+        check_error(self, InvalidTable, {"position": 0}, Catalog, [("r", Rules(ONE), [["by", [("a", "up")]]])])
+        for part, position, wrong in (("equalities", 0, [["r.a", "r.b"]]), ("filters", 0, [["r.a", "<", 5]]), ("wanted", -1, ["r.a"]),
+                                      ("order", 0, [["r.a", "up"]])):
+            check_error(self, InvalidQuery, {"part": part, "position": position}, simple, **{part: wrong})
+        check_error(self, InvalidQuery, {"part": "tables", "position": -1}, simple, ["r"])
 
     def test_kinds_of_what_is_returned(self):
         rules = Rules(ONE, [("key", ("a",))])
@@ -157,6 +235,20 @@ class ListsAndTuples(unittest.TestCase):
             self.assertIs(type(found), kind)
             for part in found:
                 self.assertIn(type(part), (tuple, str, int))
+
+    def test_kinds_of_what_is_returned_of_tables_and_queries(self):
+        rules, query, database = Rules(ONE, [("key", ("a",))]), simple(filters=[("r.c", "=", "x")]), Database(catalog_of())
+        database.insert("r", (1, 2, "x"))
+        for found, kind in ((follows(rules, ("key", ("a",))), tuple), (follows(rules, ("key", ("a",)))[1], list), (least_keys(rules), list),
+                            (least_keys(rules)[0], tuple), (determined(rules, []), tuple), (triples_of(rules, ("a",)), list),
+                            (database.catalog.tables, tuple), (database.catalog.indexes_of("r"), list), (database.rows("r"), list),
+                            (database.rows("r")[0], tuple), (database.row("r", 0), tuple), (query.tables, tuple), (query.filters, tuple),
+                            (query.equalities, tuple), (query.wanted, tuple), (query.columns_of("r"), tuple), (query.order, Order),
+                            (plain_output(database, query), list), (plain_output(database, query)[0], tuple), (classes_of(query), list),
+                            (class_of(query, "r.a"), tuple), (range_of(query, "r.a"), tuple), (range_of(query, "r.c"), list),
+                            (room_of(query, "r.a"), int), (is_fixed(query, "r.c"), bool), (in_range(query, "r.c", "x"), bool),
+                            (query_fits(database.catalog, query), bool), (same_rules(rules, rules), bool), (left_out(rules), Rules)):
+            self.assertIs(type(found), kind)
 
 
 if __name__ == "__main__":

@@ -1,0 +1,171 @@
+"""[2]: errors for every Python value: also for objects that call themselves equal to everything."""
+
+import unittest
+
+from pairsigns.classes import class_of, in_range, is_fixed, range_of, room_of
+from pairsigns.errors import (InvalidColumns, InvalidCount, InvalidName, InvalidOrder, InvalidQuery, InvalidRow, InvalidRule,
+                              InvalidTable, InvalidText, InvalidValue, InvalidVector, UnknownName, UnknownPlace, UnknownTable)
+from pairsigns.judging import determined, follows, triples_of
+from pairsigns.queries import Query, is_answer
+from pairsigns.rules import Rules, is_columns, is_rule, read_rule, rule_text
+from pairsigns.signs import Order, read_vector, sign_of, turned
+from pairsigns.tables import Catalog, Database
+from pairsigns.weakorders import weak_order_of
+from tests.query_samples import catalog_of, simple
+from tests.rule_samples import ONE, TWO
+from tests.samples import check_error, check_false
+
+
+class Everything:
+    """Equal to everything, and not to be put into a dict."""
+    __hash__ = None
+
+    def __eq__(self, other):
+        return True
+
+    def __ne__(self, other):
+        return False
+
+
+class Mimic(Everything):
+    """Equal to everything, and found in a dict where the thing would be that it mimics."""
+
+    def __init__(self, thing):
+        self.thing = thing
+
+    def __hash__(self):
+        return hash(self.thing)
+
+
+class Touchy:
+    """Fails where it is compared or asked for its hash."""
+    __hash__ = None
+
+    def __eq__(self, other):
+        raise AssertionError("compared")
+
+    def __bool__(self):
+        raise AssertionError("tested")
+
+
+def strange(*things):
+    """New strange values, of which some mimic these things."""
+    return [Everything(), Touchy(), *[Mimic(thing) for thing in things]]
+
+
+class StrangeRules(unittest.TestCase):
+    def test_signs_and_orders(self):
+        for value in strange(1, "a", "up"):
+            check_error(self, InvalidValue, {"value": value}, sign_of, 1, value)
+            check_error(self, InvalidValue, {"value": value}, weak_order_of, [value])
+            check_error(self, InvalidText, {"value": value}, read_vector, value)
+            check_error(self, InvalidCount, {"value": value}, Order().begin, value)
+            with self.assertRaises(InvalidVector):
+                turned((value,))
+            for entry in (value, ("a", value), (value, "up")):
+                check_error(self, InvalidOrder, {"position": 0}, Order, [entry])
+            check_error(self, InvalidOrder, {"position": -1}, Order, value)
+
+    def test_columns_and_rules(self):
+        for value in strange("a", "b", "key", "number", "up", 1):
+            for columns in (value, (value,), (("a", value),), ((value, "number"),)):
+                check_false(self, is_columns(columns))
+                check_error(self, InvalidColumns, {"position": -1}, Rules, columns)
+            for rule in self.rules_with(value):
+                check_false(self, is_rule(TWO, rule))
+                check_error(self, InvalidRule, {"position": -1}, rule_text, rule)
+                check_error(self, InvalidRule, {"position": 0}, Rules, TWO, [rule])
+                check_error(self, InvalidRule, {"position": -1}, follows, Rules(TWO, [("key", ("a",))]), rule)
+            check_error(self, InvalidText, {"value": value}, read_rule, TWO, value)
+
+    def rules_with(self, value):
+        return [value, (value, ("a",)), ("key", value), ("key", (value,)), ("determines", (value,), "b"), ("determines", (), value),
+                ("orders", value, (("a", "up"),)), ("orders", (("a", value),), (("a", "up"),)), ("orders", (("a", "up"),), ((value, "up"),)),
+                ("never", value), ("never", (value,)), ("never", (("a", value),)), ("never", ((value, 1),))]
+
+    def test_names(self):
+        for value in strange("a", "b"):
+            check_error(self, InvalidName, {"value": value}, determined, Rules(TWO), ["a", value])
+            check_error(self, InvalidName, {"value": value}, triples_of, Rules(TWO), ("a", value))
+
+
+class StrangeTables(unittest.TestCase):
+    def test_catalogs(self):
+        rules = Rules(ONE)
+        for value in strange("r", "a", "by", "up"):
+            check_error(self, InvalidTable, {"position": -1}, Catalog, value)
+            for table in (value, (value, rules, []), ("r", value, []), ("r", rules, value), ("r", rules, [value]),
+                          ("r", rules, [(value, [("a", "up")])]), ("r", rules, [("by", value)]), ("r", rules, [("by", [value])]),
+                          ("r", rules, [("by", [(value, "up")])]), ("r", rules, [("by", [("a", value)])])):
+                check_error(self, InvalidTable, {"position": 0}, Catalog, [table])
+
+    def test_asking_catalogs(self):
+        catalog = catalog_of()
+        for value in strange("r", "r.a", "by"):
+            for method in (catalog.rules_of, catalog.indexes_of):
+                check_error(self, UnknownTable, {"value": value}, method, value)
+            check_error(self, UnknownName, {"value": value}, catalog.kind_of, value)
+            check_error(self, UnknownTable, {"value": value}, catalog.with_rules, value, Rules(ONE))
+            check_error(self, UnknownTable, {"value": value}, catalog.with_index, value, "by", [])
+            check_error(self, InvalidName, {"value": value}, catalog.with_index, "r", value, [])
+            check_error(self, InvalidOrder, {"position": -1}, catalog.with_index, "r", "by", value)
+
+    def test_databases(self):
+        database = Database(Catalog([("r", Rules(ONE), [("by", [("a", "up")])])]))
+        database.insert("r", (1,))
+        for value in strange("r", "by", 0, 1):
+            for method, rest in ((database.insert, ((1,),)), (database.remove, (0,)), (database.row, (0,)), (database.rows, ()),
+                                 (database.sequence, ("by",))):
+                check_error(self, UnknownTable, {"value": value}, method, value, *rest)
+            check_error(self, InvalidRow, {"position": -1}, database.insert, "r", value)
+            check_error(self, InvalidRow, {"position": 0}, database.insert, "r", (value,))
+            check_error(self, UnknownPlace, {"value": value}, database.row, "r", value)
+            check_error(self, UnknownPlace, {"value": value}, database.remove, "r", value)
+            check_error(self, UnknownName, {"value": value}, database.sequence, "r", value)
+        self.assertEqual(database.rows("r"), [(0, (1,))])
+
+
+class StrangeQueries(unittest.TestCase):
+    def check(self, part, position, value):
+        check_error(self, InvalidQuery, {"part": part, "position": position}, simple, **{part: value})
+
+    def test_parts(self):
+        for value in strange("r", "r.a", "=", "up", 1, "none"):
+            for part in ("equalities", "filters", "wanted", "runs", "order", "first"):
+                self.check(part, -1, value)
+            for part in ("equalities", "filters", "order"):
+                self.check(part, 0, [value])
+            for part, element in (("equalities", ("r.a", value)), ("equalities", (value, "r.a")), ("filters", (value, "=", 1)),
+                                  ("filters", ("r.a", value, 1)), ("filters", ("r.a", "=", value)), ("filters", ("r.c", "=", value)),
+                                  ("order", (value, "up")), ("order", ("r.a", value))):
+                self.check(part, 0, [element])
+            self.check("wanted", 0, (value,))
+
+    def test_tables(self):
+        for value in strange("r", ("r",)):
+            check_error(self, InvalidQuery, {"part": "tables", "position": -1}, Query, catalog_of(), value, wanted=("r.a",))
+            check_error(self, InvalidQuery, {"part": "tables", "position": 0}, Query, catalog_of(), (value,), wanted=("r.a",))
+            check_error(self, UnknownTable, {"value": value}, simple().columns_of, value)
+
+    def test_answers(self):
+        database = Database(catalog_of())
+        database.insert("r", (1, 2, "x"))
+        for value in strange(1, (1,), "x"):
+            check_false(self, is_answer(database, simple(), value))
+            check_false(self, is_answer(database, simple(), [value]))
+            check_false(self, is_answer(database, simple(), [(value,)]))
+
+    def test_references(self):
+        for value in strange("r.a"):
+            for function in (class_of, range_of, room_of, is_fixed):
+                check_error(self, UnknownName, {"value": value}, function, simple(), value)
+            check_error(self, UnknownName, {"value": value}, in_range, simple(), value, 1)
+
+    def test_nothing_is_equal_to_what_is_equal_to_everything(self):
+        for value in (Order(), Rules(ONE), catalog_of(), Database(catalog_of()), simple()):
+            check_false(self, value == Everything())
+            check_false(self, value == Touchy())
+
+
+if __name__ == "__main__":
+    unittest.main()
