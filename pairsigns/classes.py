@@ -24,6 +24,11 @@ def classes_of(query):
     return sorted({tuple(sorted(group)) for group in groups.values()})
 
 
+def numbers_of_classes(query):
+    """The dict from the references to the tables of the query to the numbers of their classes."""
+    return {reference: number for number, group in enumerate(classes_of(query)) for reference in group}
+
+
 def class_of(query, reference):
     """The class of a reference, a sorted tuple of references."""
     for group in classes_of(query):
@@ -68,7 +73,11 @@ def is_fixed(query, reference):
 
 def in_range(query, reference, value):
     """Whether a value of the kind is in the range of the class of a reference."""
-    found = range_of(query, reference)
+    return is_within(range_of(query, reference), value)
+
+
+def is_within(found, value):
+    """Whether a value is in the range that was found for its class."""
     if isinstance(found, list):
         return all([value == text for text in found])
     low, high = found

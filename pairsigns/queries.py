@@ -198,6 +198,12 @@ def query_fits(catalog, query):
                 for table in query.tables])
 
 
+def check_fits(catalog, query):
+    """Raises Unlike unless the query fits the catalog."""
+    if not query_fits(catalog, query):
+        raise Unlike()
+
+
 def combinations(database, query):
     """Yields the fitting combinations of all tables, tuples of places, sorted."""
     for chosen in fitting_rows(database, query):
@@ -206,8 +212,7 @@ def combinations(database, query):
 
 def fitting_rows(database, query):
     """The list of the fitting combinations, each a tuple of (place, row) for each table, sorted."""
-    if not query_fits(database.catalog, query):
-        raise Unlike()
+    check_fits(database.catalog, query)
     spots = spots_of(query)
     linked = [(spots[one], spots[other]) for one, other in query.equalities]
     found = [()]

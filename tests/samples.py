@@ -11,9 +11,12 @@ def odd_values():
     from pairsigns.queries import Query
     from pairsigns.rules import Rules
     from pairsigns.signs import Order
+    from pairsigns.streams import Stream
     from pairsigns.tables import Catalog, Database
+    from pairsigns.worlds import World
     columns = (("a", "number"),)
     catalog = Catalog([("r", Rules(columns), [])])
+    query = Query(catalog, ("r",), wanted=("r.a",))
     return [
         None, True, False, 0, 1, -1, 2, -2, 5, 17, BIG, -BIG,
         "", "a", "b", "A", "abc", "a b", "none", "key", "key a", "up", "down", "coming", "number", "-", "0", "+", "-0+",
@@ -30,7 +33,7 @@ def odd_values():
         ("never", (["a", 1],)), ("never", (("coming", 0),)), (1, ("a",)), (None, None), (["key"], ("a",)),
         {}, {"a": 1}, {"a": "up"}, {1: {2: [3]}}, {0: ()}, {"a"}, frozenset(),
         object(), int, len, range(3), Order(), Order([("a", "up")]), Rules(columns), Rules(columns, [("key", ("a",))]),
-        catalog, Database(catalog), Query(catalog, ("r",), wanted=("r.a",)),
+        catalog, Database(catalog), query, Stream(catalog, query, ("heap", "r")), World(1, {"r": (0,)}, {"r.a": (0,), "r.coming": (0,)}),
     ]
 
 

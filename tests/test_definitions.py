@@ -11,11 +11,15 @@ from pathlib import Path
 from pairsigns.classes import class_of, classes_of, in_range, is_fixed, range_of, room_of
 from pairsigns.errors import InvalidOrder, InvalidQuery, InvalidRow, InvalidRule, InvalidTable, InvalidValue, InvalidVector
 from pairsigns.judging import determined, follows, least_keys, left_out, same_rules, triples_of
+from pairsigns.plans import check_plan, is_stream, is_whole, plan_tables, work_of
 from pairsigns.queries import Query, combinations, is_answer, plain_output, query_fits
 from pairsigns.rules import Rules, breaks, is_columns, is_rule, read_rule, rule_text
+from pairsigns.running import plan_output, run_plan
 from pairsigns.signs import Order, read_vector, sign_of, turned, vector_text
+from pairsigns.streams import Stream
 from pairsigns.tables import Catalog, Database
 from pairsigns.weakorders import pair_sign, signs_fit, weak_order_of, weak_orders
+from pairsigns.worlds import World, database_of, is_free_world, is_world, worlds_of
 from tests.query_samples import catalog_of, simple
 from tests.rule_samples import ONE, TWO
 from tests.samples import check_error, check_same
@@ -33,6 +37,11 @@ FUNCTIONS = {
                 "is_answer": ["database", "query", "rows"]},
     "classes": {"classes_of": ["query"], "class_of": ["query", "reference"], "range_of": ["query", "reference"],
                 "room_of": ["query", "reference"], "is_fixed": ["query", "reference"], "in_range": ["query", "reference", "value"]},
+    "plans": {"check_plan": ["catalog", "query", "plan"], "plan_tables": ["plan"], "is_whole": ["query", "plan"], "is_stream": ["plan"],
+              "work_of": ["plan"]},
+    "running": {"run_plan": ["database", "query", "plan"], "plan_output": ["database", "query", "plan"]},
+    "worlds": {"is_world": ["stream", "value"], "is_free_world": ["stream", "value"], "database_of": ["stream", "world"],
+               "worlds_of": ["stream", "size", "things"]},
 }
 METHODS = {
     ("signs", "Order"): {"__init__": ["entries"], "entries": [], "columns": [], "begin": ["count"], "then": ["other"],
@@ -41,6 +50,10 @@ METHODS = {
     ("rules", "Rules"): {"__init__": ["columns", "rules"], "columns": [], "rules": [], "names": [], "lets": ["vector"],
                          "first_broken": ["vector"], "vectors": [], "with_rule": ["rule"], "without": ["rule"], "__len__": [],
                          "__contains__": ["rule"], "__eq__": ["other"]},
+    ("streams", "Stream"): {"__init__": ["catalog", "query", "plan"], "catalog": [], "query": [], "plan": [], "tables": [], "order": [],
+                            "references": [], "things": [], "classes": [], "__eq__": ["other"]},
+    ("worlds", "World"): {"__init__": ["size", "marks", "ranks"], "size": [], "marks": [], "ranks": [], "sign": ["thing", "first", "second"],
+                          "sign_by": ["order", "first", "second"], "__eq__": ["other"]},
 }
 
 
@@ -89,12 +102,15 @@ class Interface(unittest.TestCase):
     def test_kinds_of_methods(self):
         for owner, names in ((Order, ("entries", "columns")), (Rules, ("columns", "rules")), (Catalog, ("tables",)),
                              (Database, ("catalog",)),
-                             (Query, ("tables", "equalities", "filters", "wanted", "runs", "order", "first"))):
+                             (Query, ("tables", "equalities", "filters", "wanted", "runs", "order", "first")),
+                             (Stream, ("catalog", "query", "plan", "tables", "order", "references", "things", "classes")),
+                             (World, ("size", "marks", "ranks"))):
             for name in names:
                 self.assertIsInstance(vars(owner)[name], property)
         self.assertIsInstance(vars(Order)["from_text"], classmethod)
         self.assertTrue(inspect.isgeneratorfunction(weak_orders))
-        self.assertTrue(inspect.isgeneratorfunction(combinations))
+        for function in (combinations, run_plan, worlds_of):
+            self.assertTrue(inspect.isgeneratorfunction(function))
 
 
 class ByName(unittest.TestCase):
@@ -151,6 +167,22 @@ class ByName(unittest.TestCase):
         changed = {"wanted": ("r.b", "r.c"), "order": [("r.c", "up")], "filters": []}
         self.assertEqual(query.changed(**changed), query.changed(**dict(reversed(list(changed.items())))))
         self.assertEqual(changed, {"wanted": ("r.b", "r.c"), "order": [("r.c", "up")], "filters": []})
+
+    def test_plans_streams_and_worlds(self):
+        catalog, query, plan = catalog_of(), simple(filters=[("r.a", "<", 5)]), ("sort", (("r.a", "up"),), ("heap", "r"))
+        database, stream = Database(catalog), Stream(catalog, query, plan)
+        database.insert("r", (1, 2, "x"))
+        world = World(1, {"r": (0,)}, {thing: (0,) for thing in stream.things})
+        for call, arguments in (
+                (check_plan, {"catalog": catalog, "query": query, "plan": plan}), (is_whole, {"query": query, "plan": plan}),
+                (plan_tables, {"plan": plan}), (is_stream, {"plan": plan}), (work_of, {"plan": plan}),
+                (Stream, {"catalog": catalog, "query": query, "plan": plan}), (plan_output, {"database": database, "query": query, "plan": plan}),
+                (World, {"size": 1, "marks": {"r": (0,)}, "ranks": {"r.a": (0,)}}), (is_world, {"stream": stream, "value": world}),
+                (is_free_world, {"stream": stream, "value": world}), (database_of, {"stream": stream, "world": world}),
+                (world.sign, {"thing": "r.a", "first": 0, "second": 0}), (world.sign_by, {"order": [("r.a", "up")], "first": 0, "second": 0})):
+            self.check_call(call, arguments)
+        check_same(self, list(run_plan(query=query, plan=plan, database=database)), list(run_plan(database, query, plan)))
+        check_same(self, list(worlds_of(things=["r.a"], size=2, stream=stream)), list(worlds_of(stream, 2, ["r.a"])))
 
     def test_generators(self):
         check_same(self, list(weak_orders(count=2, most=1)), list(weak_orders(2, 1)))

@@ -3,17 +3,22 @@
 import unittest
 
 from pairsigns.classes import class_of, in_range, is_fixed, range_of, room_of
-from pairsigns.errors import (InvalidColumns, InvalidCount, InvalidName, InvalidOrder, InvalidQuery, InvalidRow, InvalidRule,
-                              InvalidTable, InvalidText, InvalidValue, InvalidVector, UnknownName, UnknownPlace, UnknownTable)
+from pairsigns.errors import (InvalidColumns, InvalidCount, InvalidName, InvalidOrder, InvalidPlan, InvalidQuery, InvalidRow,
+                              InvalidRule, InvalidTable, InvalidText, InvalidValue, InvalidVector, UnknownName, UnknownPlace, UnknownTable)
 from pairsigns.judging import determined, follows, triples_of
+from pairsigns.plans import check_plan
 from pairsigns.queries import Query, is_answer
 from pairsigns.rules import Rules, is_columns, is_rule, read_rule, rule_text
 from pairsigns.signs import Order, read_vector, sign_of, turned
+from pairsigns.streams import Stream
 from pairsigns.tables import Catalog, Database
 from pairsigns.weakorders import weak_order_of
+from pairsigns.worlds import World, is_free_world, is_world, worlds_of
+from tests.plan_samples import catalog_of as plan_catalog
+from tests.plan_samples import query_of
 from tests.query_samples import catalog_of, simple
 from tests.rule_samples import ONE, TWO
-from tests.samples import check_error, check_false
+from tests.samples import check_error, check_false, check_true
 
 
 class Everything:
@@ -162,9 +167,42 @@ class StrangeQueries(unittest.TestCase):
             check_error(self, UnknownName, {"value": value}, in_range, simple(), value, 1)
 
     def test_nothing_is_equal_to_what_is_equal_to_everything(self):
-        for value in (Order(), Rules(ONE), catalog_of(), Database(catalog_of()), simple()):
+        stream = Stream(catalog_of(), simple(), ("heap", "r"))
+        for value in (Order(), Rules(ONE), catalog_of(), Database(catalog_of()), simple(), stream, World(1, {}, {})):
             check_false(self, value == Everything())
             check_false(self, value == Touchy())
+
+
+class StrangePlans(unittest.TestCase):
+    def test_plans(self):
+        catalog, query = plan_catalog(), query_of(filters=[("s.d", "=", 1)], runs="distinct", first=2, order=(("r.a", "up"),))
+        read = ("heap", "r")
+        for value in strange("r", "heap", "s", "bd", "by", "r.b", "s.b", "up", 1, (("r.b", "up"),), (("r.b", "s.b", "up"),), read):
+            for plan, path in (
+                    (value, ()), ((value, "r"), ()), (("heap", value), ()), (("index", "r", value), ()), (("index", value, "by"), ()),
+                    (("sort", value, read), ()), (("sort", (value,), read), ()), (("sort", ((value, "up"),), read), ()),
+                    (("sort", (("r.b", value),), read), ()), (("sort", (("r.b", "up"),), value), (2,)), (("distinct", value), (1,)),
+                    (("first", value), (1,)), (("merge", value, read, ("heap", "s")), ()), (("merge", (value,), read, ("heap", "s")), ()),
+                    (("merge", ((value, "s.b", "up"),), read, ("heap", "s")), ()), (("merge", (("r.b", value, "up"),), read, ("heap", "s")), ()),
+                    (("merge", (("r.b", "s.b", value),), read, ("heap", "s")), ()), (("merge", (("r.b", "s.b", "up"),), read, value), (3,)),
+                    (("seek", read, value, "bd", 1), ()), (("seek", read, "s", value, 1), ()), (("seek", read, "s", "bd", value), ()),
+                    (("seek", value, "s", "bd", 1), (1,))):
+                check_error(self, InvalidPlan, {"path": path}, check_plan, catalog, query, plan)
+                check_error(self, InvalidPlan, {"path": path}, Stream, catalog, query, plan)
+
+    def test_worlds(self):
+        stream = Stream(plan_catalog(), query_of(), ("heap", "s"))
+        parts = (2, {"s": (0, 1)}, {"s.b": (0, 0), "s.d": (1, 0), "s.coming": (0, 1)})
+        check_true(self, is_world(stream, World(*parts)))
+        for value in strange(0, 1, 2, (0, 1)):
+            for size, marks, ranks in ((value, *parts[1:]), (2, {"s": value}, parts[2]), (2, {"s": (0, value)}, parts[2]),
+                                       (2, parts[1], parts[2] | {"s.b": value}), (2, parts[1], parts[2] | {"s.b": (0, value)})):
+                found = World(size, marks, ranks)
+                check_false(self, is_free_world(stream, found))
+                check_false(self, is_world(stream, found))
+            check_false(self, is_world(stream, value))
+            check_error(self, InvalidCount, {"value": value}, next, worlds_of(stream, value, []))
+            check_error(self, UnknownName, {"value": value}, next, worlds_of(stream, 2, ["s.b", value]))
 
 
 if __name__ == "__main__":
