@@ -11,14 +11,18 @@ from pathlib import Path
 from pairsigns.classes import class_of, classes_of, in_range, is_fixed, range_of, room_of
 from pairsigns.errors import InvalidOrder, InvalidQuery, InvalidRow, InvalidRule, InvalidTable, InvalidValue, InvalidVector
 from pairsigns.judging import determined, follows, least_keys, left_out, same_rules, triples_of
+from pairsigns.planning import filling, least_plan, least_rules, serves
 from pairsigns.plans import check_plan, is_stream, is_whole, plan_tables, work_of
 from pairsigns.queries import Query, combinations, is_answer, plain_output, query_fits
+from pairsigns.questions import No, Yes, ask, is_broken_by, is_sound, same_sequence, short_list, vectors_of
+from pairsigns.reasons import is_reason, rests_on
 from pairsigns.rules import Rules, breaks, is_columns, is_rule, read_rule, rule_text
 from pairsigns.running import plan_output, run_plan
 from pairsigns.signs import Order, read_vector, sign_of, turned, vector_text
 from pairsigns.streams import Stream
 from pairsigns.tables import Catalog, Database
 from pairsigns.weakorders import pair_sign, signs_fit, weak_order_of, weak_orders
+from pairsigns.wishes import is_shape, shapes_of, wishes_of
 from pairsigns.worlds import World, database_of, is_free_world, is_world, worlds_of
 from tests.query_samples import catalog_of, simple
 from tests.rule_samples import ONE, TWO
@@ -42,6 +46,12 @@ FUNCTIONS = {
     "running": {"run_plan": ["database", "query", "plan"], "plan_output": ["database", "query", "plan"]},
     "worlds": {"is_world": ["stream", "value"], "is_free_world": ["stream", "value"], "database_of": ["stream", "world"],
                "worlds_of": ["stream", "size", "things"]},
+    "questions": {"ask": ["stream", "question"], "is_sound": ["stream"], "is_broken_by": ["stream", "question", "world"],
+                  "vectors_of": ["stream", "things"], "short_list": ["stream"], "same_sequence": ["one", "other"]},
+    "reasons": {"is_reason": ["stream", "question", "value"], "rests_on": ["reason"]},
+    "wishes": {"wishes_of": ["catalog", "query", "plan"], "shapes_of": ["catalog", "query"], "is_shape": ["catalog", "query", "value"]},
+    "planning": {"serves": ["catalog", "query", "plan"], "filling": ["catalog", "query", "shape"], "least_plan": ["catalog", "query"],
+                 "least_rules": ["catalog", "query", "offered"]},
 }
 METHODS = {
     ("signs", "Order"): {"__init__": ["entries"], "entries": [], "columns": [], "begin": ["count"], "then": ["other"],
@@ -54,6 +64,9 @@ METHODS = {
                             "references": [], "things": [], "classes": [], "__eq__": ["other"]},
     ("worlds", "World"): {"__init__": ["size", "marks", "ranks"], "size": [], "marks": [], "ranks": [], "sign": ["thing", "first", "second"],
                           "sign_by": ["order", "first", "second"], "__eq__": ["other"]},
+    ("questions", "Answer"): {},
+    ("questions", "Yes"): {"__init__": ["reason"], "reason": [], "__bool__": [], "__eq__": ["other"]},
+    ("questions", "No"): {"__init__": ["world"], "world": [], "__bool__": [], "__eq__": ["other"]},
 }
 
 
@@ -109,7 +122,7 @@ class Interface(unittest.TestCase):
                 self.assertIsInstance(vars(owner)[name], property)
         self.assertIsInstance(vars(Order)["from_text"], classmethod)
         self.assertTrue(inspect.isgeneratorfunction(weak_orders))
-        for function in (combinations, run_plan, worlds_of):
+        for function in (combinations, run_plan, worlds_of, shapes_of):
             self.assertTrue(inspect.isgeneratorfunction(function))
 
 
@@ -183,6 +196,21 @@ class ByName(unittest.TestCase):
             self.check_call(call, arguments)
         check_same(self, list(run_plan(query=query, plan=plan, database=database)), list(run_plan(database, query, plan)))
         check_same(self, list(worlds_of(things=["r.a"], size=2, stream=stream)), list(worlds_of(stream, 2, ["r.a"])))
+
+    def test_questions_and_planning(self):
+        catalog, query, shape = catalog_of(), simple(order=[("r.a", "up")]), ("sort", (), ("heap", "r"))
+        stream, question, world = Stream(catalog, query, shape), ("sorted", (("r.coming", "up"),)), World(1, {}, {})
+        reason, plan = ask(stream, question).reason, least_plan(catalog, query)
+        for call, arguments in (
+                (ask, {"stream": stream, "question": question}), (is_sound, {"stream": stream}), (same_sequence, {"one": stream, "other": stream}),
+                (is_broken_by, {"stream": stream, "question": question, "world": world}), (vectors_of, {"stream": stream, "things": ["r.a", "r.b"]}),
+                (short_list, {"stream": stream}), (is_reason, {"stream": stream, "question": question, "value": reason}),
+                (rests_on, {"reason": reason}), (wishes_of, {"catalog": catalog, "query": query, "plan": shape}),
+                (is_shape, {"catalog": catalog, "query": query, "value": shape}), (serves, {"catalog": catalog, "query": query, "plan": plan}),
+                (filling, {"catalog": catalog, "query": query, "shape": shape}), (least_plan, {"catalog": catalog, "query": query}),
+                (least_rules, {"catalog": catalog, "query": query, "offered": [("r", ("key", ()))]}), (Yes, {"reason": reason}), (No, {"world": world})):
+            self.check_call(call, arguments)
+        check_same(self, list(shapes_of(query=query, catalog=catalog)), list(shapes_of(catalog, query)))
 
     def test_generators(self):
         check_same(self, list(weak_orders(count=2, most=1)), list(weak_orders(2, 1)))

@@ -3,16 +3,20 @@
 import unittest
 
 from pairsigns.classes import class_of, in_range, is_fixed, range_of, room_of
-from pairsigns.errors import (InvalidColumns, InvalidCount, InvalidName, InvalidOrder, InvalidPlan, InvalidQuery, InvalidRow,
-                              InvalidRule, InvalidTable, InvalidText, InvalidValue, InvalidVector, UnknownName, UnknownPlace, UnknownTable)
+from pairsigns.errors import (InvalidColumns, InvalidCount, InvalidName, InvalidOffer, InvalidOrder, InvalidPlan, InvalidQuery,
+                              InvalidQuestion, InvalidRow, InvalidRule, InvalidTable, InvalidText, InvalidValue, InvalidVector, UnknownName, UnknownPlace, UnknownTable)
 from pairsigns.judging import determined, follows, triples_of
+from pairsigns.planning import filling, least_rules, serves
 from pairsigns.plans import check_plan
 from pairsigns.queries import Query, is_answer
+from pairsigns.questions import Yes, ask, is_broken_by, vectors_of
+from pairsigns.reasons import is_reason
 from pairsigns.rules import Rules, is_columns, is_rule, read_rule, rule_text
 from pairsigns.signs import Order, read_vector, sign_of, turned
 from pairsigns.streams import Stream
 from pairsigns.tables import Catalog, Database
 from pairsigns.weakorders import weak_order_of
+from pairsigns.wishes import is_shape, wishes_of
 from pairsigns.worlds import World, is_free_world, is_world, worlds_of
 from tests.plan_samples import catalog_of as plan_catalog
 from tests.plan_samples import query_of
@@ -168,7 +172,7 @@ class StrangeQueries(unittest.TestCase):
 
     def test_nothing_is_equal_to_what_is_equal_to_everything(self):
         stream = Stream(catalog_of(), simple(), ("heap", "r"))
-        for value in (Order(), Rules(ONE), catalog_of(), Database(catalog_of()), simple(), stream, World(1, {}, {})):
+        for value in (Order(), Rules(ONE), catalog_of(), Database(catalog_of()), simple(), stream, World(1, {}, {}), Yes(())):
             check_false(self, value == Everything())
             check_false(self, value == Touchy())
 
@@ -203,6 +207,40 @@ class StrangePlans(unittest.TestCase):
             check_false(self, is_world(stream, value))
             check_error(self, InvalidCount, {"value": value}, next, worlds_of(stream, value, []))
             check_error(self, UnknownName, {"value": value}, next, worlds_of(stream, 2, ["s.b", value]))
+
+
+class StrangeQuestions(unittest.TestCase):
+    def test_questions_and_reasons(self):
+        stream = Stream(plan_catalog({"r": [("key", ("a",))]}), query_of(), ("index", "r", "by"))
+        question, asked, listed = ("sorted", (("r.b", "up"),)), ("ends", ("asked",)), ("ends", ("list",))
+        check_true(self, is_reason(stream, question, ("split", "r.b", (asked, asked, listed))))
+        for value in strange("sorted", "key", "r.b", "r", "up", "ends", "split", "asked", "list", "rule", ("key", ("a",)), asked, listed, ("asked",)):
+            for wrong in (value, (value,), (value, ()), ("sorted", value), ("sorted", (value,)), ("sorted", ((value, "up"),)), ("sorted", (("r.b", value),)),
+                          ("key", value), ("key", (value,)), ("key", ("r.b", value)), ("determines", ("r.b",), value), ("constant", value)):
+                check_error(self, InvalidQuestion, {}, ask, stream, wrong)
+                check_error(self, InvalidQuestion, {}, is_broken_by, stream, wrong, None)
+                check_error(self, InvalidQuestion, {}, is_reason, stream, wrong, asked)
+            for wrong in (value, (value, ("asked",)), ("ends", value), ("ends", (value,)), ("ends", ("rule", value, ("key", ("a",)))),
+                          ("ends", ("rule", "r", value)), ("ends", ("same", value)), ("ends", ("room", value)), ("split", value, (asked, asked, listed)),
+                          ("split", "r.b", value), ("split", "r.b", (asked, asked, value)), (value, "r.b", (asked, asked, listed)),
+                          ("split", "r", (listed, ("ends", ("rule", "r", value))))):
+                check_false(self, is_reason(stream, question, wrong))
+            check_false(self, is_broken_by(stream, question, value))
+            check_error(self, UnknownName, {"value": value}, vectors_of, stream, ["r.b", value])
+
+    def test_planning(self):
+        catalog, query = plan_catalog(), query_of(("r", "s"), runs="distinct", first=2, order=(("r.a", "up"),))
+        read = ("heap", "r")
+        for value in strange("r", "heap", (), read, ("distinct", read), ("r", ("key", ())), ("key", ())):
+            for plan in (value, ("first", value), ("first", ("distinct", value)), ("first", ("sort", value, ("distinct", read))),
+                         ("first", ("distinct", ("sort", value, read)))):
+                check_false(self, serves(catalog, query, plan))
+                check_false(self, is_shape(catalog, query, plan))
+                check_error(self, InvalidPlan, {"path": ()}, filling, catalog, query, plan)
+            check_error(self, InvalidPlan, {"path": (1,)}, wishes_of, catalog, query, ("first", value))
+            check_error(self, InvalidOffer, {"position": -1}, least_rules, catalog, query, value)
+            for offer in (value, (value, ("key", ())), ("r", value)):
+                check_error(self, InvalidOffer, {"position": 1}, least_rules, catalog, query, [("r", ("key", ("a",))), offer])
 
 
 if __name__ == "__main__":
