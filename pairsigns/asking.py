@@ -42,11 +42,11 @@ def rows_of_question(question):
 
 
 def things_of_question(question):
-    """The list of the things that a question speaks of."""
+    """The list of the things that a question speaks of; one can stand in it twice."""
     if question[0] == "sorted":
         return [column for column, _ in question[1]]
     if question[0] == "determines":
-        return [*question[1], *[thing for thing in question[2:] if thing not in question[1]]]
+        return [*question[1], question[2]]
     if question[0] == "constant":
         return [question[1]]
     return [thing for things in question[1:] for thing in things]

@@ -23,9 +23,8 @@ def sets_ahead(pairs, size, entries):
 
 
 def narrowed(pairs, sets, thing, signs):
-    """The sets of worlds of each two rows, without those that have other signs in a thing; None if one is empty."""
-    found = [worlds & pairs.having(thing, sign) for worlds, sign in zip(sets, signs)]
-    return None if 0 in found else found
+    """The sets of worlds of each two rows, without those that have other signs in a thing."""
+    return [worlds & pairs.having(thing, sign) for worlds, sign in zip(sets, signs)]
 
 
 def fitting_ranks(pairs, sets, choices):
@@ -37,8 +36,7 @@ def fitting_ranks(pairs, sets, choices):
     thing, ranked = choices[0]
     rest = choices[1:]
     for ranks, signs in ranked.items():
-        fewer = narrowed(pairs, sets, thing, signs)
-        found = None if fewer is None else fitting_ranks(pairs, fewer, rest)
+        found = fitting_ranks(pairs, narrowed(pairs, sets, thing, signs), rest)
         if found is not None:
             return {thing: ranks, **found}
     return None
@@ -46,13 +44,14 @@ def fitting_ranks(pairs, sets, choices):
 
 def all_fitting_ranks(pairs, sets, asked, others):
     """The sorted list of the tuples of weak orders in the things that are asked for with which there are rows."""
+    if 0 in sets:
+        return []
     if len(asked) == 0:
         return [] if fitting_ranks(pairs, sets, others) is None else [()]
     thing, ranked = asked[0]
     rest = asked[1:]
     found = []
     for ranks, signs in ranked.items():
-        fewer = narrowed(pairs, sets, thing, signs)
-        longer = [] if fewer is None else all_fitting_ranks(pairs, fewer, rest, others)
+        longer = all_fitting_ranks(pairs, narrowed(pairs, sets, thing, signs), rest, others)
         found.extend([(ranks, *more) for more in longer])
     return found

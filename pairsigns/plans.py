@@ -82,13 +82,18 @@ def work_of(plan):
     return (count_of(plan, "sort"), count_of(plan, "seek"))
 
 
+def orders_of_pairs(pairs):
+    """The entries by which a merge with these pairs asks its plan, and its other plan, to be sorted."""
+    return (tuple([(first, direction) for first, _, direction in pairs]),
+            tuple([(second, direction) for _, second, direction in pairs]))
+
+
 def merge_wishes(plan):
     """The list of the tuples of a plan and the entries that a merge asks it to be sorted by, innermost first."""
     found = [wish for part in plans_inside(plan) for wish in merge_wishes(part)]
     if plan[0] != "merge":
         return found
-    first = tuple([(reference, direction) for reference, _, direction in plan[1]])
-    second = tuple([(reference, direction) for _, reference, direction in plan[1]])
+    first, second = orders_of_pairs(plan[1])
     return [*found, (plan[2], first), (plan[3], second)]
 
 

@@ -3,7 +3,7 @@
 from pairsigns.basics import sign_between
 from pairsigns.classes import is_within, numbers_of_classes, range_of
 from pairsigns.errors import Apart, InvalidPlan, OutOfOrder
-from pairsigns.plans import check_plan, is_stream, is_whole, plan_tables, stream_in
+from pairsigns.plans import check_plan, is_stream, is_whole, orders_of_pairs, plan_tables, stream_in
 from pairsigns.queries import values_at
 from pairsigns.references import references_to
 from pairsigns.signs import sign_by
@@ -113,11 +113,11 @@ def sorted_rows(run, plan, path):
 class Side:
     """One side of a merge, of which the rows have to come in order."""
 
-    def __init__(self, run, plan, pairs, path):
+    def __init__(self, run, plan, entries, path):
         self._run = run
         self._tables = plan_tables(plan)
-        self._spots = run.spots_of(self._tables, [reference for reference, _ in pairs])
-        self._entries = [(at, direction) for at, (_, direction) in enumerate(pairs)]
+        self._spots = run.spots_of(self._tables, [reference for reference, _ in entries])
+        self._directions = [(at, direction) for at, (_, direction) in enumerate(entries)]
         self._path = path
         self._last = None
 
@@ -126,22 +126,23 @@ class Side:
         found = self._run.values_of(self._tables, row, self._spots)
         if self._last is not None:
             signs = {at: sign_between(one, other) for at, (one, other) in enumerate(zip(found, self._last))}
-            if sign_by(self._entries, signs) == -1:
+            if sign_by(self._directions, signs) == -1:
                 raise OutOfOrder(self._path)
         self._last = found
 
 
 def merged_rows(run, plan, path):
     """Yields the rows of a merge: all rows of the other plan are drawn first."""
-    inside, other = plan[2:]
+    _, pairs, inside, other = plan
     below, beside = (*path, 2), (*path, 3)
-    side = Side(run, other, [(reference, direction) for _, reference, direction in plan[1]], path)
+    first, second = orders_of_pairs(pairs)
+    side = Side(run, other, second, path)
     others = []
     for row in rows_of(run, other, beside):
         side.take(row)
         others.append(row[0])
     matches = Matches(run, plan_tables(inside), plan_tables(other)[0], others)
-    side = Side(run, inside, [(reference, direction) for reference, _, direction in plan[1]], path)
+    side = Side(run, inside, first, path)
     for row in rows_of(run, inside, below):
         side.take(row)
         for place in matches.places(row):

@@ -2,7 +2,7 @@
 
 from pairsigns.asking import breaking_ranks, without
 from pairsigns.pairs import Pairs
-from pairsigns.plans import count_of, plan_tables
+from pairsigns.plans import count_of, orders_of_pairs, plan_tables
 from pairsigns.references import references_to
 from pairsigns.streams import list_of, read_entries_of, rooms_of_things
 
@@ -26,7 +26,8 @@ class Wish:
 
     def is_contradicted_by(self, entry):
         """Whether an entry decides an undecided pair in another way than it is wished."""
-        return self._left & self._pairs.having(entry[0], -1 if entry[1] == "down" else 1) != 0
+        wrong = -1 if entry[1] == "down" else 1
+        return (self._left & self._pairs.having(entry[0], wrong)) != 0
 
     def take(self, entry):
         """Leaves those pairs undecided that are alike in an entry of the list."""
@@ -128,8 +129,7 @@ class Judge:
         places, wishes = self.laid_out(plan)
         beside = self.laid_out(other)[0]
         many = len(places)
-        first = tuple([(reference, direction) for reference, _, direction in pairs])
-        second = tuple([(reference, direction) for _, reference, direction in pairs])
+        first, second = orders_of_pairs(pairs)
         return ([*places, *beside], [*wishes, (0, many, plan_tables(plan), first),
                                      (many, many + len(beside), plan_tables(other), second)])
 

@@ -54,13 +54,12 @@ class Space:
         """Whether this is a shape of the space, for any value."""
         if self._check.fault(value, ()) is not None or not is_whole(self._query, value):
             return False
-        stream = stream_in(value)
-        return self.has_stream(stream) and value in self.tops(stream)
+        return self.has_stream(stream_in(value))
 
     def has_stream(self, stream):
         """Whether a right stream is one of those in the shapes of the space."""
         inside = stream[2] if stream[0] == "sort" else stream
-        if inside[0] == "sort" or stream not in (inside, ("sort", (), inside)):
+        if stream not in (inside, ("sort", (), inside)):
             return False
         if inside[0] in ("heap", "index"):
             return True

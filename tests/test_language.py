@@ -135,6 +135,44 @@ class NamesOfThePackage(unittest.TestCase):
                 self.assertIn(node.func.attr, own | ALLOWED_METHODS, where)
                 self.assertFalse(node.keywords and node.func.attr not in own, where)
 
+    def test_names_of_properties_methods_and_attributes_differ(self):
+        functions = [(where, node) for where, node in nodes(ast.FunctionDef) if isinstance(node.around, ast.ClassDef)]
+        properties = {node.name for _, node in functions if [part for part in node.decorator_list if ast.unparse(part) == "property"]}
+        methods = {node.name for _, node in functions} - properties
+        for where, node in functions:
+            self.assertFalse(node.name in properties and not node.decorator_list, where)
+        for where, node in nodes(ast.Attribute):
+            if isinstance(node.ctx, ast.Store):
+                self.assertNotIn(node.attr, properties | methods, where)
+
+    def test_generators(self):
+        functions = [node for _, node in nodes(ast.FunctionDef)]
+        names = [node.name for node in functions if [part for part in ast.walk(node) if isinstance(part, (ast.Yield, ast.YieldFrom))]]
+        for name in names:
+            self.assertEqual([node.name for node in functions].count(name), 1, name)
+        for where, node in calls_of(*names):
+            around = node.around
+            taken = is_call_of(around, TAKERS[:8]) or isinstance(around, ast.YieldFrom) or (
+                isinstance(around, (ast.For, ast.comprehension)) and around.iter is node)
+            self.assertTrue(taken, where)
+            for part in node.args:
+                self.assertIsInstance(part, (ast.Name, ast.Attribute, ast.Constant, ast.Tuple), where)
+
+    def test_lists_and_dicts_at_module_level_are_only_read(self):
+        for file in FILES:
+            kept = {part.targets[0].id for part in tree_of(file).body
+                    if isinstance(part, ast.Assign) and isinstance(part.value, (ast.Dict, ast.List))}
+            for node in ast.walk(tree_of(file)):
+                if isinstance(node, ast.Name) and node.id in kept and isinstance(node.ctx, ast.Load):
+                    around = node.around
+                    self.assertIsInstance(around, (ast.Subscript, ast.Compare, ast.For, ast.comprehension, ast.Attribute), f"{file.name}:{node.lineno}")
+
+    def test_stars_stand_before_names(self):
+        for where, node in nodes(ast.Call):
+            for part in node.args:
+                if isinstance(part, ast.Starred):
+                    self.assertIsInstance(part.value, (ast.Name, ast.Attribute, ast.Tuple, ast.List), where)
+
     def test_decorators_and_annotations(self):
         for where, node in nodes((ast.FunctionDef, ast.ClassDef)):
             for decorator in node.decorator_list:

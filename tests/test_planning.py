@@ -158,6 +158,28 @@ class Filling(unittest.TestCase):
         self.assertIsNone(self.check(bare(), down, ("sort", (("r.b", "down"),), ("distinct", READ))))
         self.assertIsNotNone(self.check(bare({"r": [("key", ())]}), down, ("distinct", READ)))
 
+    def test_rows_that_stand_together_without_a_sort(self):
+        two = [("orders", (("a", "up"),), (("b", "up"),)), ("key", ("a",))]
+        catalog = Catalog([("r", Rules((("a", "number"), ("b", "number")), two), [])])
+        query = query_of(("r",), catalog, equalities=[], filters=[("r.a", ">", 0), ("r.a", "<", 3)], wanted=("r.b",), runs="groups")
+        check_same(self, self.check(catalog, query, ("groups", READ)), ("groups", READ))
+        check_same(self, least_plan(catalog, query), ("groups", READ))
+        self.assertIsNone(self.check(catalog, query.changed(order=(("r.b", "up"),)), ("groups", READ)))
+
+    def test_a_sort_that_can_have_no_entry(self):
+        """r.b and r.c go round, and the heap of r follows them pair by pair: no order of r alone does so."""
+        going = ((-1, 0), (0, 1), (1, -1))
+        others = [(one, other) for one in (-1, 0, 1) for other in (-1, 0, 1) if (one, other) not in going]
+        follows = [("never", (("b", one), ("c", other), ("coming", 1))) for one, other in going]
+        needs = [("never", (("b", one), ("c", other), ("e", -1))) for one, other in others]
+        columns = (("b", "number"), ("c", "number"))
+        catalog = Catalog([("r", Rules(columns, follows), []), ("t", Rules((*columns, ("e", "number")), needs), [("by", [("b", "up")])])])
+        query = query_of(("r", "t"), catalog, equalities=[("r.b", "t.b"), ("r.c", "t.c")], wanted=("t.e",), order=(("t.e", "up"),))
+        shape = ("seek", READ, "t", "by", 1)
+        check_same(self, self.check(catalog, query, shape), shape)
+        self.assertIsNone(self.check(catalog, query, ("seek", ("sort", (), READ), "t", "by", 1)))
+        self.assertIsNotNone(self.check(catalog, query.changed(order=()), ("seek", ("sort", (), READ), "t", "by", 1)))
+
     def test_shapes_without_a_sort_and_with_one_at_each_place(self):
         dice, seen = random.Random(82), {True: 0, False: 0}
         for _ in range(40):

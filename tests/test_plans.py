@@ -231,7 +231,7 @@ class Tops(PlanTests):
                        (("sort", (), (runs, THREE)), ()), (("sort", self.order, ("sort", self.order, (runs, THREE))), ()),
                        (("first", (runs, THREE)), ()), ((runs,), ()), ((runs, THREE, ()), ()))
         self.wrong(query_of(), (("distinct", THREE), ()), (("groups", THREE), ()))
-        self.wrong(query_of(runs="distinct"), (("sort", (("r.a", "up"),), ("distinct", THREE)), ()))
+        self.wrong(query_of(runs="distinct"), (("sort", (("r.a", "up"),), ("distinct", THREE)), ()), (("sort", (), ("distinct", THREE)), ()))
 
     def test_first(self):
         self.right(query_of(first=3), ("first", THREE), THREE, ("first", ("sort", (("r.b", "up"),), THREE)))

@@ -136,6 +136,11 @@ class Space(unittest.TestCase):
         self.assertEqual(len(self.check(bare, query_of(equalities=chain))), 6 * 2 * (2 * 2 * 2) ** 2)
         self.check(bare, query_of(equalities=chain, order=ORDER, first=1))
 
+    def test_tables_without_a_class_in_common_are_not_joined(self):
+        few = catalog_of(indexes={"r": [], "s": []})
+        found = self.check(few, query_of(filters=[("t.d", "=", 4)]))
+        self.assertFalse([shape for shape in found if shape[0] == "seek" and shape[1] == READ])
+
     def test_by_chance(self):
         dice, many = random.Random(72), 0
         for _ in range(60):

@@ -115,6 +115,11 @@ class WorldsOfAStream(unittest.TestCase):
                                   (2, marks, ranks | {"r.b": None})):
             self.check(stream, World(size, mark, order), False, False)
 
+    def test_other_numbers_of_rows(self):
+        for size in (0, 4):
+            rows = tuple(range(size))
+            self.check(small(), World(size, {"r": rows}, {"r.a": rows, "r.b": rows, "r.coming": rows}), False, False)
+
     def test_each_condition(self):
         self.check(small(), world(1, 1, a=(0, 0), b=(0, 0)), True, False)
         self.check(small(), world(1, 1, a=(0, 1), b=(0, 0)), False, False)
