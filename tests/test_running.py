@@ -161,6 +161,71 @@ class Merging(Example):
         self.check(("merge", (("s.d", "t.d", "up"),), inside, ("sort", (("t.d", "up"),), ("heap", "t"))), [], (OutOfOrder, (2,)))
 
 
+class SmallTables(unittest.TestCase):
+    """Tables without rows, with one row, and with rows that are alike; sorts with eight entries, merges with three pairs."""
+    columns = {"r": (("a", "number"), ("b", "number"), ("c", "text")), "s": (("a", "number"), ("b", "number"), ("c", "text")),
+               "t": (("a", "number"), ("d", "text"))}
+
+    def setUp(self):
+        self.catalog = Catalog([(table, Rules(columns), [("by", [("a", "up")])]) for table, columns in self.columns.items()])
+        self.joins = [("r.a", "s.a"), ("r.b", "s.b"), ("r.c", "s.c")]
+        self.pairs = tuple((one, other, direction) for (one, other), direction in zip(self.joins, ("up", "down", "up")))
+
+    def database(self, rows):
+        database = Database(self.catalog)
+        for table, found in rows.items():
+            for row in found:
+                database.insert(table, row)
+        return database
+
+    def merge(self, plan=READ):
+        sides = [("sort", tuple((pair[at], pair[2]) for pair in self.pairs), side) for at, side in ((0, plan), (1, ("heap", "s")))]
+        return ("merge", self.pairs, *sides)
+
+    def check(self, rows, wanted, tables=("r", "s"), plan=None, joins=None):
+        query = query_of(tables, self.catalog, equalities=self.joins if joins is None else joins, wanted=(f"{tables[0]}.a",))
+        database, plan = self.database(rows), plan or self.merge()
+        self.assertEqual(outcome(run_plan(database, query, plan)), (wanted, None))
+        self.assertEqual(stream_rows(database, query, plan), wanted)
+
+    def test_three_pairs(self):
+        rows = [(1, 2, "x"), (1, 3, "x"), (0, 3, "y"), (1, 3, "w")]
+        self.check({"r": rows, "s": rows}, [(2, 2), (3, 3), (1, 1), (0, 0)])
+        self.check({"r": rows, "s": rows[1:]}, [(2, 1), (3, 2), (1, 0)])
+
+    def test_no_rows_and_one_row(self):
+        row = (1, 2, "x")
+        seek = ("seek", READ, "s", "by", 1)
+        for plan in (None, seek, ("sort", (("s.c", "down"),), seek)):
+            self.check({}, [], plan=plan)
+            self.check({"r": [row]}, [], plan=plan)
+            self.check({"s": [row]}, [], plan=plan)
+            self.check({"r": [row], "s": [row]}, [(0, 0)], plan=plan)
+        for plan in (READ, ("index", "r", "by"), ("sort", (("r.c", "up"),), READ)):
+            self.check({}, [], ("r",), plan, [])
+            self.check({"r": [row]}, [(0,)], ("r",), plan, [])
+
+    def test_rows_that_are_alike(self):
+        row = (1, 2, "x")
+        self.check({"r": [row, row], "s": [row, row]}, [(0, 0), (0, 1), (1, 0), (1, 1)])
+        self.check({"r": [row, row], "s": [row, row]}, [(0, 0), (0, 1), (1, 0), (1, 1)], plan=("seek", READ, "s", "by", 1))
+        self.check({"r": [row, row, row]}, [(0,), (1,), (2,)], ("r",), ("sort", (("r.a", "down"), ("r.c", "up")), READ), [])
+
+    def test_eight_entries(self):
+        order = tuple((f"{table}.{name}", direction) for (table, name), direction in zip(
+            [(table, name) for table in "trs" for name, _ in self.columns[table]], ("up", "down") * 4))
+        self.assertEqual(len(order), 8)
+        plan = ("sort", order, ("seek", ("seek", READ, "s", "by", 1), "t", "by", 1))
+        rows = [(1, 1, "x"), (0, 1, "x"), (1, 0, "y"), (1, 0, "x")]
+        database = self.database({"r": rows, "s": rows, "t": [(1, "v"), (0, "u"), (1, "u")]})
+        query = query_of(("r", "s", "t"), self.catalog, equalities=[("r.a", "s.a"), ("s.a", "t.a")])
+        found = list(run_plan(database, query, plan))
+        self.assertEqual(found, stream_rows(database, query, plan))
+        self.assertEqual(len(found), 3 * 3 * 2 + 1)
+        for one, other in zip(found, found[1:]):
+            self.assertEqual(sign_by(database, ("r", "s", "t"), order, one, other), -1)
+
+
 class Runs(Example):
     def check_runs(self, runs, plan, rows, error=None, **changed):
         self.check((runs, plan), rows, error, runs=runs, **({"wanted": ("r.a",)} | changed))

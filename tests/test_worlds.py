@@ -245,6 +245,8 @@ class Databases(unittest.TestCase):
         again, same = database_of(world=found, stream=stream)
         self.assertEqual((again, same), (database, rows))
         self.assertIs(type(rows), list)
+        same.clear()
+        self.assertEqual(database_of(stream, found)[1], rows)
         check_true(self, keeps_rules(database))
         self.assertEqual(world_of_rows(database, stream.query, stream.tables, rows), found)
         came = stream_rows(database, stream.query, stream.plan)
