@@ -64,3 +64,14 @@ def tuples_over(choices, length):
     for _ in range(length):
         found = [(*before, choice) for before in found for choice in choices]
     return found
+
+
+def copied(value):
+    """A value in which all lists and dicts are new."""
+    if isinstance(value, list):
+        return [copied(part) for part in value]
+    if isinstance(value, tuple):
+        return tuple([copied(part) for part in value])
+    if isinstance(value, dict):
+        return {key: copied(part) for key, part in value.items()}
+    return value

@@ -4,7 +4,7 @@ from heapq import heappop, heappush
 
 from pairsigns.basics import is_listing, tuples_over
 from pairsigns.errors import InvalidOffer, InvalidPlan
-from pairsigns.plans import PlanCheck, count_of, is_stream, is_whole, stream_in, work_of
+from pairsigns.plans import PlanCheck, count_of, is_stream, is_whole, plans_inside, stream_in, work_of
 from pairsigns.queries import check_fits, is_one_of
 from pairsigns.rules import Rules, is_rule_for
 from pairsigns.serving import Judge, filled
@@ -25,6 +25,16 @@ def with_stream(shape, stream):
         return stream
     many = len(shape) - 1
     return (*shape[:many], with_stream(shape[many], stream))
+
+
+def indexes_in(plan):
+    """The sorted tuple of the indexes, tuples (table, name), by which a plan reads its tables."""
+    found = [index for part in plans_inside(plan) for index in indexes_in(part)]
+    if plan[0] == "index":
+        found.append((plan[1], plan[2]))
+    if plan[0] == "seek":
+        found.append((plan[2], plan[3]))
+    return tuple(sorted(found))
 
 
 class Planner:
@@ -100,6 +110,30 @@ class Planner:
                         number = number + 1
                         heappush(queue, (sorts, seeks, number, ended, longer))
         return None
+
+    def index_sets(self):
+        """The list of the sets of indexes, each a sorted tuple of tuples (table, name), by which plans without sorts
+        that serve read their tables; sets are left out that are never better than others."""
+        found, listed = [], {}
+        waiting = [plan for table in self._query.tables for plan in self._space.reads(table)]
+        while len(waiting) > 0:
+            stream = waiting.pop()
+            used = indexes_in(stream)
+            name = (self._judge.list_text(stream), used)
+            if name not in listed and self._judge.orders_serving(stream, []) is not None:
+                listed[name] = True
+                found.extend([used for shape in self.ends_without_sorts(stream) if self.filling(shape) is not None])
+                waiting.extend(self.steps_without_sorts(stream))
+        return found
+
+    def ends_without_sorts(self, stream):
+        """The list of the whole shapes with a stream without sorts that have no sort above it."""
+        shapes = self._space.tops(stream) if self._space.is_complete(stream) else []
+        return [shape for shape in shapes if count_of(shape, "sort") == 0]
+
+    def steps_without_sorts(self, stream):
+        """The list of the plans that add one table to a stream without sorts, without sorting it."""
+        return [longer for longer in self._space.simple_steps(stream) if count_of(longer, "sort") == 0]
 
     def is_worth_going_on(self, stream, listed):
         """Whether the merges in a stream can be served, and no stream without sorts came earlier with its list."""

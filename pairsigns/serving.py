@@ -24,10 +24,18 @@ class Wish:
         """Whether an entry decides something that is undecided."""
         return without(self._left, self._pairs.having(entry[0], 0)) != 0
 
+    def contradicting(self, entry):
+        """The set of the undecided pairs that an entry decides in another way than it is wished."""
+        wrong = -1 if entry[1] == "down" else 1
+        return self._left & self._pairs.having(entry[0], wrong)
+
     def is_contradicted_by(self, entry):
         """Whether an entry decides an undecided pair in another way than it is wished."""
-        wrong = -1 if entry[1] == "down" else 1
-        return (self._left & self._pairs.having(entry[0], wrong)) != 0
+        return self.contradicting(entry) != 0
+
+    def signs_against(self, entry):
+        """The dict from the things to the signs of an undecided pair that contradicts an entry."""
+        return self._pairs.first_of(self.contradicting(entry))
 
     def take(self, entry):
         """Leaves those pairs undecided that are alike in an entry of the list."""
@@ -140,10 +148,16 @@ class Judge:
     def orders_serving(self, plan, orders):
         """The list of the orders for the sorts of a stream without entries, such that its merges get what they wish
         and it is sorted by all of these orders; None if there are none."""
+        places, wishes = self.places_and_wishes(plan, orders)
+        return orders_for(places, wishes)
+
+    def places_and_wishes(self, plan, orders):
+        """The list of the places in the list of a stream, as laid_out has them, and the list of the Wishes of its
+        merges, innermost first, and then of the stream itself, which must be sorted by all of these orders."""
         places, wished = self.laid_out(plan)
         whole = [(0, len(places), plan_tables(plan), order) for order in orders]
-        return orders_for(places, [Wish(begin, end, self.pairs_of(tables), order)
-                                   for begin, end, tables, order in [*wished, *whole]])
+        return (places, [Wish(begin, end, self.pairs_of(tables), order)
+                         for begin, end, tables, order in [*wished, *whole]])
 
     def list_text(self, plan):
         """The text of the list of a stream."""

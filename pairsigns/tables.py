@@ -32,9 +32,12 @@ def are_indexes(names, value):
 
 def is_index(names, value):
     """Whether this is a tuple of a name and an order that an index can have."""
-    if not isinstance(value, tuple) or len(value) != 2 or not is_name(value[0]):
-        return False
-    entries = entries_in(value[1])
+    return isinstance(value, tuple) and len(value) == 2 and is_name(value[0]) and is_index_order(names, value[1])
+
+
+def is_index_order(names, value):
+    """Whether an index of a table that has columns with these names can have this order, for any value."""
+    entries = entries_in(value)
     if not is_listing(entries) or first_wrong_entry(entries) is not None:
         return False
     return fault_of_index(names, entries) is None
@@ -120,13 +123,30 @@ class Catalog:
         return isinstance(other, Catalog) and self._tables == other._tables
 
 
-def check_row(columns, row):
-    """Raises InvalidRow unless these are the values of a row with these columns."""
+def fault_of_row(columns, row):
+    """Why no row with these columns has these values: the position of the first wrong one, -1 for the row as a whole,
+    or None."""
     if not is_listing(row) or len(row) != len(columns):
-        raise InvalidRow(-1)
+        return -1
     for position, (value, column) in enumerate(zip(row, columns)):
         if not has_kind(value, column[1]):
-            raise InvalidRow(position)
+            return position
+    return None
+
+
+def check_row(columns, row):
+    """Raises InvalidRow unless these are the values of a row with these columns."""
+    fault = fault_of_row(columns, row)
+    if fault is not None:
+        raise InvalidRow(fault)
+
+
+def check_rules(table, rules, rows, added):
+    """Raises RuleBroken for the first of the rows, tuples (place, row), with which an added one breaks a rule."""
+    for place, earlier in rows:
+        rule = rules.first_broken(vector_of(earlier, added))
+        if rule is not None:
+            raise RuleBroken(table, place, rule)
 
 
 def vector_of(earlier, later):
@@ -151,10 +171,7 @@ class Database:
         """Adds a row that breaks no rule with the rows that are there, and returns its place."""
         rules = self._catalog.rules_of(table)
         check_row(rules.columns, row)
-        for place, earlier in self.rows(table):
-            rule = rules.first_broken(vector_of(earlier, row))
-            if rule is not None:
-                raise RuleBroken(table, place, rule)
+        check_rules(table, rules, self.rows(table), row)
         place = self._next[table]
         self._rows[table][place] = tuple(row)
         self._next[table] = place + 1
@@ -195,13 +212,20 @@ class Database:
     def clone(self):
         """A Database with the same rows, at the same places, that goes its own way from now on."""
         other = Database(self._catalog)
-        other._rows = {table: dict(self._rows[table]) for table in self._catalog.tables}
-        other._next = dict(self._next)
+        other.take_over(self._rows, self._next)
         return other
+
+    def take_over(self, rows, places):
+        """Has just these rows from now on, dicts from places to rows by tables, and these next places."""
+        self._rows = {table: dict(rows[table]) for table in self._catalog.tables}
+        self._next = dict(places)
 
     def __len__(self):
         return len([place for rows in self._rows.values() for place in rows])
 
+    def is_like(self, other):
+        """Whether another Database has the same catalog, rows and next places."""
+        return self._catalog == other._catalog and self._rows == other._rows and self._next == other._next
+
     def __eq__(self, other):
-        return isinstance(other, Database) and self._catalog == other._catalog and (
-            self._rows == other._rows and self._next == other._next)
+        return isinstance(other, Database) and self.is_like(other)

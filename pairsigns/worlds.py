@@ -1,6 +1,6 @@
 """Worlds: what one, two or three rows of a stream have in common, and a database that shows it."""
 
-from pairsigns.basics import is_count, is_integer
+from pairsigns.basics import copied, is_count, is_integer
 from pairsigns.classes import range_of, room_of
 from pairsigns.errors import InvalidCount, TooMany, UnknownName
 from pairsigns.fitting import all_fitting_ranks, choices_of, sets_ahead
@@ -13,17 +13,6 @@ from pairsigns.weakorders import pair_sign
 MOST_THINGS = 6
 MOST_THINGS_OF_THREE = 3
 LETTERS = "abc"
-
-
-def copied(value):
-    """A value in which all lists and dicts are new."""
-    if isinstance(value, list):
-        return [copied(part) for part in value]
-    if isinstance(value, tuple):
-        return tuple([copied(part) for part in value])
-    if isinstance(value, dict):
-        return {key: copied(part) for key, part in value.items()}
-    return value
 
 
 def sorted_copy(table):

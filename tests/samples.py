@@ -11,6 +11,7 @@ def odd_values():
     from pairsigns.queries import Query
     from pairsigns.rules import Rules
     from pairsigns.signs import Order
+    from pairsigns.stores import Store
     from pairsigns.streams import Stream
     from pairsigns.tables import Catalog, Database
     from pairsigns.worlds import World
@@ -34,6 +35,7 @@ def odd_values():
         {}, {"a": 1}, {"a": "up"}, {1: {2: [3]}}, {0: ()}, {"a"}, frozenset(),
         object(), int, len, range(3), Order(), Order([("a", "up")]), Rules(columns), Rules(columns, [("key", ("a",))]),
         catalog, Database(catalog), query, Stream(catalog, query, ("heap", "r")), World(1, {"r": (0,)}, {"r.a": (0,), "r.coming": (0,)}),
+        Store(catalog), Store(catalog).batch(), Store(catalog).keep("v", query, ("heap", "r")),
     ]
 
 

@@ -8,9 +8,14 @@ import re
 import unittest
 from pathlib import Path
 
+from pairsigns.choosing import Choice, folded_orders, foundation_of, least_sets, same_sort
 from pairsigns.classes import class_of, classes_of, in_range, is_fixed, range_of, room_of
+from pairsigns.desk import Desk
 from pairsigns.errors import InvalidOrder, InvalidQuery, InvalidRow, InvalidRule, InvalidTable, InvalidValue, InvalidVector
+from pairsigns.finding import found_rules, shortest_rules
 from pairsigns.judging import determined, follows, least_keys, left_out, same_rules, triples_of
+from pairsigns.pages import Paging, marking_of, page_after, token_of
+from pairsigns.papers import is_refusal, refusal_of
 from pairsigns.planning import filling, least_plan, least_rules, serves
 from pairsigns.plans import check_plan, is_stream, is_whole, plan_tables, work_of
 from pairsigns.queries import Query, combinations, is_answer, plain_output, query_fits
@@ -19,8 +24,11 @@ from pairsigns.reasons import is_reason, rests_on
 from pairsigns.rules import Rules, breaks, is_columns, is_rule, read_rule, rule_text
 from pairsigns.running import plan_output, run_plan
 from pairsigns.signs import Order, read_vector, sign_of, turned, vector_text
+from pairsigns.stores import Store
 from pairsigns.streams import Stream
 from pairsigns.tables import Catalog, Database
+from pairsigns.texts import index_text, plan_text, query_text, read_index, read_query, read_table, table_text
+from pairsigns.views import View
 from pairsigns.weakorders import pair_sign, signs_fit, weak_order_of, weak_orders
 from pairsigns.wishes import is_shape, shapes_of, wishes_of
 from pairsigns.worlds import World, database_of, is_free_world, is_world, worlds_of
@@ -52,6 +60,13 @@ FUNCTIONS = {
     "wishes": {"wishes_of": ["catalog", "query", "plan"], "shapes_of": ["catalog", "query"], "is_shape": ["catalog", "query", "value"]},
     "planning": {"serves": ["catalog", "query", "plan"], "filling": ["catalog", "query", "shape"], "least_plan": ["catalog", "query"],
                  "least_rules": ["catalog", "query", "offered"]},
+    "papers": {"refusal_of": ["catalog", "query", "shape"], "is_refusal": ["catalog", "query", "shape", "value"]},
+    "choosing": {"least_sets": ["catalog", "query", "offered"], "same_sort": ["rules", "one", "other"], "folded_orders": ["rules", "orders"],
+                 "foundation_of": ["catalog", "query", "plan"]},
+    "pages": {"marking_of": ["view"], "token_of": ["view", "position"], "page_after": ["view", "text", "count"]},
+    "finding": {"found_rules": ["columns", "rows"], "shortest_rules": ["columns", "rows"]},
+    "texts": {"table_text": ["catalog", "table"], "index_text": ["catalog", "table", "name"], "query_text": ["query"], "plan_text": ["plan"],
+              "read_table": ["text"], "read_index": ["catalog", "text"], "read_query": ["catalog", "text"]},
 }
 METHODS = {
     ("signs", "Order"): {"__init__": ["entries"], "entries": [], "columns": [], "begin": ["count"], "then": ["other"],
@@ -67,6 +82,18 @@ METHODS = {
     ("questions", "Answer"): {},
     ("questions", "Yes"): {"__init__": ["reason"], "reason": [], "__bool__": [], "__eq__": ["other"]},
     ("questions", "No"): {"__init__": ["world"], "world": [], "__bool__": [], "__eq__": ["other"]},
+    ("tables", "Catalog"): {"__init__": ["tables"], "tables": [], "rules_of": ["table"], "indexes_of": ["table"], "kind_of": ["reference"],
+                            "with_rules": ["table", "rules"], "with_index": ["table", "name", "order"], "__eq__": ["other"]},
+    ("tables", "Database"): {"__init__": ["catalog"], "catalog": [], "insert": ["table", "row"], "remove": ["table", "place"], "row": ["table", "place"],
+                             "rows": ["table"], "sequence": ["table", "name"], "clone": [], "__len__": [], "__eq__": ["other"]},
+    ("choosing", "Choice"): {"__init__": ["catalog", "queries", "offered"], "chosen": [], "needed_by": ["position"], "failing": [], "extended": []},
+    ("stores", "Store"): {"__init__": ["catalog"], "update": ["table", "place", "row"], "write": ["writes"], "batch": [], "keep": ["name", "query", "plan"],
+                          "view": ["name"], "drop": ["name"], "names": [], "clone": [], "__eq__": ["other"]},
+    ("stores", "Batch"): {"insert": ["table", "row"], "remove": ["table", "place"], "update": ["table", "place", "row"], "writes": []},
+    ("views", "View"): {"name": [], "query": [], "plan": [], "number": [], "rows": [], "wanted_rows": [], "news": [], "spot": ["places"], "__len__": [],
+                        "__contains__": ["places"]},
+    ("pages", "Paging"): {"__init__": ["view", "count"], "page": []},
+    ("desk", "Desk"): {"__init__": [], "catalog": [], "store": [], "say": ["command"]},
 }
 
 
@@ -117,7 +144,8 @@ class Interface(unittest.TestCase):
                              (Database, ("catalog",)),
                              (Query, ("tables", "equalities", "filters", "wanted", "runs", "order", "first")),
                              (Stream, ("catalog", "query", "plan", "tables", "order", "references", "things", "classes")),
-                             (World, ("size", "marks", "ranks"))):
+                             (World, ("size", "marks", "ranks")), (Choice, ("chosen",)), (View, ("name", "query", "plan", "number")),
+                             (type(Store(catalog_of()).batch()), ("writes",)), (Desk, ("catalog", "store"))):
             for name in names:
                 self.assertIsInstance(vars(owner)[name], property)
         self.assertIsInstance(vars(Order)["from_text"], classmethod)
@@ -211,6 +239,43 @@ class ByName(unittest.TestCase):
                 (least_rules, {"catalog": catalog, "query": query, "offered": [("r", ("key", ()))]}), (Yes, {"reason": reason}), (No, {"world": world})):
             self.check_call(call, arguments)
         check_same(self, list(shapes_of(query=query, catalog=catalog)), list(shapes_of(catalog, query)))
+
+    def test_papers_and_choosing(self):
+        catalog, query, shape, rules = catalog_of(), simple(order=[("r.a", "up")]), ("heap", "r"), Rules(TWO, [("key", ("a",))])
+        refusal, offered = refusal_of(catalog, query, shape), [("r", [("a", "up")])]
+        for call, arguments in (
+                (refusal_of, {"catalog": catalog, "query": query, "shape": shape}), (foundation_of, {"catalog": catalog, "query": simple(), "plan": shape}),
+                (is_refusal, {"catalog": catalog, "query": query, "shape": shape, "value": refusal}), (least_sets, {"catalog": catalog, "query": query, "offered": offered}),
+                (same_sort, {"rules": rules, "one": [("a", "up")], "other": [("b", "up")]}), (folded_orders, {"rules": rules, "orders": [[("a", "up")], [("b", "up")]]}),
+                (Choice(catalog, [query], offered).needed_by, {"position": 0}), (Choice(catalog, [query], offered).failing, {})):
+            self.check_call(call, arguments)
+        by_name = Choice(queries=[query], offered=offered, catalog=catalog)
+        self.assertEqual((by_name.chosen, by_name.extended()), ((0,), Choice(catalog, [query], offered).extended()))
+
+    def test_stores_views_and_pages(self):
+        store = Store(catalog=catalog_of())
+        check_same(self, [store.insert(row=(1, 2, "x"), table="r"), store.update(row=(3, 4, "y"), place=0, table="r")], [0, 1])
+        check_same(self, store.write(writes=[("insert", "r", (5, 6, "z"))]), [2])
+        view = store.keep(plan=("heap", "r"), query=simple(), name="v")
+        for call, arguments in (
+                (Store, {"catalog": catalog_of()}), (store.view, {"name": "v"}), (store.names, {}), (view.spot, {"places": (1,)}), (view.rows, {}), (view.news, {}),
+                (view.wanted_rows, {}), (store.clone, {})):
+            self.check_call(call, arguments)
+        self.assertEqual(marking_of(view=view), marking_of(view))
+        check_same(self, token_of(position=0, view=view), token_of(view, 0))
+        check_same(self, page_after(count=5, text="0 1", view=view), page_after(view, "0 1", 5))
+        check_same(self, Paging(count=1, view=view).page(), [(1,)])
+        check_same(self, store.drop(name="v"), None)
+
+    def test_finding_texts_and_the_desk(self):
+        catalog = catalog_of().with_index("r", "by", [("a", "up")])
+        for call, arguments in (
+                (found_rules, {"columns": ONE, "rows": [(1,), (1,)]}), (shortest_rules, {"columns": TWO, "rows": []}), (table_text, {"catalog": catalog, "table": "r"}),
+                (index_text, {"catalog": catalog, "table": "r", "name": "by"}), (query_text, {"query": simple()}), (plan_text, {"plan": ("sort", (), ("heap", "r"))}),
+                (read_table, {"text": "table r: a number; key"}), (read_index, {"catalog": catalog, "text": "index z on r: b"}),
+                (read_query, {"catalog": catalog, "text": "from r; want r.b"})):
+            self.check_call(call, arguments)
+        check_same(self, Desk().say(command="table r: a number"), "ok")
 
     def test_generators(self):
         check_same(self, list(weak_orders(count=2, most=1)), list(weak_orders(2, 1)))

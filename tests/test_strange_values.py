@@ -2,10 +2,16 @@
 
 import unittest
 
+from pairsigns.choosing import Choice, folded_orders, foundation_of, least_sets, same_sort
 from pairsigns.classes import class_of, in_range, is_fixed, range_of, room_of
-from pairsigns.errors import (InvalidColumns, InvalidCount, InvalidName, InvalidOffer, InvalidOrder, InvalidPlan, InvalidQuery,
-                              InvalidQuestion, InvalidRow, InvalidRule, InvalidTable, InvalidText, InvalidValue, InvalidVector, UnknownName, UnknownPlace, UnknownTable)
+from pairsigns.desk import Desk
+from pairsigns.errors import (InvalidColumns, InvalidCommand, InvalidCount, InvalidName, InvalidOffer, InvalidOrder, InvalidPlan, InvalidQuery,
+                              InvalidQuestion, InvalidRow, InvalidRule, InvalidTable, InvalidText, InvalidToken, InvalidValue, InvalidVector, InvalidWrite,
+                              NotServing, UnknownName, UnknownPlace, UnknownTable)
+from pairsigns.finding import found_rules, shortest_rules
 from pairsigns.judging import determined, follows, triples_of
+from pairsigns.pages import Paging, page_after, token_of
+from pairsigns.papers import is_refusal, refusal_of
 from pairsigns.planning import filling, least_rules, serves
 from pairsigns.plans import check_plan
 from pairsigns.queries import Query, is_answer
@@ -13,8 +19,10 @@ from pairsigns.questions import Yes, ask, is_broken_by, vectors_of
 from pairsigns.reasons import is_reason
 from pairsigns.rules import Rules, is_columns, is_rule, read_rule, rule_text
 from pairsigns.signs import Order, read_vector, sign_of, turned
+from pairsigns.stores import Store
 from pairsigns.streams import Stream
 from pairsigns.tables import Catalog, Database
+from pairsigns.texts import index_text, read_index, read_query, read_table, table_text
 from pairsigns.weakorders import weak_order_of
 from pairsigns.wishes import is_shape, wishes_of
 from pairsigns.worlds import World, is_free_world, is_world, worlds_of
@@ -241,6 +249,96 @@ class StrangeQuestions(unittest.TestCase):
             check_error(self, InvalidOffer, {"position": -1}, least_rules, catalog, query, value)
             for offer in (value, (value, ("key", ())), ("r", value)):
                 check_error(self, InvalidOffer, {"position": 1}, least_rules, catalog, query, [("r", ("key", ("a",))), offer])
+
+    def test_refusals(self):
+        query, shape = query_of(("r",), order=(("r.a", "down"),)), ("heap", "r")
+        choices, end, worlds = refusal_of(plan_catalog(), query, shape)
+        for value in strange((), 0, end, worlds, end[1], shape):
+            for wrong in (value, (value, end, worlds), (choices, value, worlds), (choices, end, value), (choices, (value, end[1]), worlds), (choices, (0, value), worlds),
+                          (choices, end, (value,)), (choices, end, ((value, ("r.a", "up"), 0, end[1]),))):
+                check_false(self, is_refusal(plan_catalog(), query, shape, wrong))
+            check_error(self, InvalidPlan, {"path": ()}, refusal_of, plan_catalog(), query, value)
+            check_error(self, InvalidPlan, {"path": ()}, is_refusal, plan_catalog(), query, ("first", value), None)
+
+    def test_refusals_with_sorts(self):
+        query, shape = query_of(("r", "s"), order=(("r.a", "down"),)), ("merge", (("r.b", "s.b", "up"),), ("sort", (), ("heap", "r")), ("heap", "s"))
+        choices, end, worlds = refusal_of(plan_catalog(), query, shape)
+        self.assertTrue(worlds)
+        sort, entry, number, world = worlds[0]
+        for value in strange(sort, entry, number, world, "up", entry[0]):
+            for wrong in ((value, entry, number, world), (sort, value, number, world), (sort, entry, value, world), (sort, entry, number, value), (sort, (value, entry[1]), number, world),
+                          (sort, (entry[0], value), number, world)):
+                check_false(self, is_refusal(plan_catalog(), query, shape, (choices, end, (wrong, *worlds[1:]))))
+            check_false(self, is_refusal(plan_catalog(), query, shape, ((value,), end, worlds)))
+            check_false(self, is_refusal(plan_catalog(), query, shape, (((value,),), end, worlds)))
+
+
+class StrangeChoices(unittest.TestCase):
+    def test_offers_and_orders(self):
+        catalog, query = plan_catalog(), query_of(("r",))
+        choice = Choice(catalog, [query], [])
+        for value in strange("r", "a", "up", (("a", "up"),), ("r", (("a", "up"),)), 0):
+            for offered, position in ((value, -1), ([value], 0), ([(value, [("a", "up")])], 0), ([("r", value)], 0), ([("r", [value])], 0), ([("r", [(value, "up")])], 0)):
+                check_error(self, InvalidOffer, {"position": position}, least_sets, catalog, query, offered)
+                check_error(self, InvalidOffer, {"position": position}, Choice, catalog, [query], offered)
+            check_error(self, InvalidCount, {"value": value}, choice.needed_by, value)
+            check_error(self, InvalidOrder, {"position": -1}, same_sort, Rules(ONE), value, [])
+            check_error(self, InvalidOrder, {"position": 0}, same_sort, Rules(ONE), [], [(value, "up")])
+            check_error(self, InvalidOrder, {"position": 0}, folded_orders, Rules(ONE), [[("a", value)]])
+            check_error(self, NotServing, {}, foundation_of, catalog, query, value)
+
+
+class StrangeStores(unittest.TestCase):
+    def test_writes(self):
+        store = Store(catalog_of())
+        store.insert("r", (1, 2, "x"))
+        for value in strange("r", "insert", "remove", 0, 1, (1, 2, "x"), []):
+            check_error(self, InvalidWrite, {"position": -1}, store.write, value)
+            for write in (value, (value, "r", 0), ("insert", value, (1, 2, "x")), ("insert", "r", value), ("insert", "r", (value, 2, "x")), ("insert", "r", (1, 2, value)),
+                          ("remove", value, 0), ("remove", "r", value), ("update", value, 0, (1, 2, "x")), ("update", "r", value, (1, 2, "x")), ("update", "r", 0, value)):
+                check_error(self, InvalidWrite, {"position": 0}, store.write, [write])
+            check_error(self, UnknownTable, {"value": value}, store.update, value, 0, (1, 2, "x"))
+            check_error(self, UnknownPlace, {"value": value}, store.update, "r", value, (1, 2, "x"))
+            check_error(self, InvalidRow, {"position": -1}, store.update, "r", 0, value)
+            check_error(self, InvalidRow, {"position": 1}, store.update, "r", 0, (1, value, "x"))
+            batch = store.batch()
+            batch.insert(value, value)
+            self.assertIs(batch.writes[0][1], value)
+            check_error(self, InvalidWrite, {"position": 0}, store.write, batch)
+        self.assertEqual(store.rows("r"), [(0, (1, 2, "x"))])
+
+    def test_views(self):
+        store = Store(catalog_of())
+        store.insert("r", (1, 2, "x"))
+        view = store.keep("v", simple(), ("heap", "r"))
+        for value in strange("v", "w", (0,), 0, 1, "0 0", ("heap", "r")):
+            check_error(self, InvalidName, {"value": value}, store.keep, value, simple(), ("heap", "r"))
+            check_error(self, InvalidPlan, {"path": ()}, store.keep, "w", simple(), value)
+            check_error(self, UnknownName, {"value": value}, store.view, value)
+            check_error(self, UnknownName, {"value": value}, store.drop, value)
+            for places in (value, (value,)):
+                check_false(self, places in view)
+                with self.assertRaises(UnknownPlace):
+                    view.spot(places)
+            check_error(self, InvalidCount, {"value": value}, token_of, view, value)
+            check_error(self, InvalidToken, {"value": value}, page_after, view, value, 1)
+            check_error(self, InvalidCount, {"value": value}, page_after, view, "0 0", value)
+            check_error(self, InvalidCount, {"value": value}, Paging, view, value)
+
+    def test_rules_and_texts(self):
+        for value in strange("a", 1, (1,), "table r: a number", "r", "from r; want r.a", "rows r"):
+            for function in (found_rules, shortest_rules):
+                check_error(self, InvalidColumns, {"position": -1}, function, value, [])
+                check_error(self, InvalidRow, {"position": -1}, function, ONE, value)
+                check_error(self, InvalidRow, {"position": 0}, function, ONE, [value])
+                check_error(self, InvalidRow, {"position": 0}, function, ONE, [(value,)])
+            check_error(self, UnknownTable, {"value": value}, table_text, catalog_of(), value)
+            check_error(self, UnknownTable, {"value": value}, index_text, catalog_of(), value, "by")
+            check_error(self, UnknownName, {"value": value}, index_text, catalog_of(), "r", value)
+            check_error(self, InvalidText, {"value": value}, read_table, value)
+            check_error(self, InvalidText, {"value": value}, read_index, catalog_of(), value)
+            check_error(self, InvalidText, {"value": value}, read_query, catalog_of(), value)
+            check_error(self, InvalidCommand, {"value": value}, Desk().say, value)
 
 
 if __name__ == "__main__":
