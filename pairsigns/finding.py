@@ -55,7 +55,12 @@ def found_signs(columns, rows):
     choices = tuples_over((None, *SIGNS), len(columns))
     possible = [tuple([(at, sign) for at, sign in enumerate(choice) if sign is not None]) for choice in choices]
     found = [parts for parts in possible if len(parts) > 0 and holds(seen, parts) and is_least(seen, parts)]
-    return sorted(found, key=lambda parts: (len(parts), [at for at, _ in parts], [sign for _, sign in parts]))
+    return sorted(found, key=place_of_rule)
+
+
+def place_of_rule(parts):
+    """By what rules with such signs are sorted: the number of signs, the positions of the columns, the signs."""
+    return (len(parts), [at for at, _ in parts], [sign for _, sign in parts])
 
 
 def rules_with(columns, listed):

@@ -26,7 +26,7 @@ def random_question(dice, things, kind=None):
 
 def likely_question(dice, things, entries):
     """A question that is often answered with yes: about the first things of the list."""
-    begun = tuple(entries[:dice.randint(1, len(entries))])
+    begun = tuple(entries[:min(8, dice.randint(1, len(entries)))])
     columns = tuple(dice.sample([column for column, _ in begun], len(begun)))
     if dice.random() < 0.3:
         columns = columns[1:] + tuple(thing for thing in things if thing.endswith("coming") and thing not in columns[1:])

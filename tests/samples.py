@@ -79,8 +79,9 @@ def check_false(test, found, message=None):
 
 
 def edits(text, letters):
-    """All strings that have one character more, less, or another one."""
+    """All strings that have one character more, also one doubled, less, or another one."""
     found = {text[:at] + text[at + 1:] for at in range(len(text))}
+    found |= {text[:at] + text[at] + text[at:] for at in range(len(text))}
     found |= {text[:at] + letter + text[at + 1:] for at in range(len(text)) for letter in letters}
     found |= {text[:at] + letter + text[at:] for at in range(len(text) + 1) for letter in letters}
     return sorted(found - {text})

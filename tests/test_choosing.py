@@ -94,6 +94,16 @@ class LeastSets(unittest.TestCase):
         check_same(self, least_sets(bare({"r": [("key", ())]}), query_of(("r",), order=ORDER), self.offers), [()])
         check_same(self, least_sets(offered=self.offers, query=two, catalog=bare()), [(0,), (1,)])
 
+    def test_returned_lists_are_new(self):
+        rules, orders = Rules(TWO), [[("a", "up")], [("b", "up")]]
+        catalog, plan = bare({"r": [RISING]}), READ
+        query = query_of(("r",), wanted=("r.b",), order=(("r.b", "up"),))
+        for call in (lambda: least_sets(bare(), query_of(("r", "s")), self.offers), lambda: folded_orders(rules, orders), lambda: foundation_of(catalog, query, plan)):
+            kept = call()
+            call().clear()
+            check_same(self, call(), kept)
+            self.assertTrue(kept)
+
     def test_two_offers_that_are_the_same(self):
         offers = [("r", ORDER_OF_A), ("t", (("d", "up"),)), ("r", ORDER_OF_A), ("r", (("a", "down"), ("c", "up")))]
         check_same(self, least_sets(bare(), query_of(("r",), order=ORDER), offers), [(0,), (2,), (3,)])
